@@ -1,0 +1,1 @@
+"""Hoststack: a small operating system, from blocks that survive a crash to a shell."""

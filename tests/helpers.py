@@ -1,0 +1,103 @@
+"""What several tests share: devices, file systems, and what must hold of every file system."""
+
+import unittest
+
+from hoststack.device import Device
+from hoststack.errors import FileError
+from hoststack.files import make_files
+from hoststack.inode import FOLDER, FREE
+
+
+def new_files(block_size=64, count=400, inodes=64, capacity=16):
+    return make_files(Device(block_size, count), inodes, capacity)
+
+
+def in_operation(files, deed):
+    files.cache.begin()
+    found = deed()
+    files.cache.end()
+    return found
+
+
+def inodes_of(files):
+    return [files.blocks.inode(number) for number in range(files.layout.inodes)]
+
+
+def free_inodes(files):
+    return [inode.kind for inode in inodes_of(files)].count(FREE) - 1
+
+
+def contents(files):
+    """Return the rows, free blocks, inodes and bitmap of a file system: all that a refused deed must leave alone."""
+    bitmap = tuple(files.blocks.is_used(number) for number in range(files.layout.total))
+    inodes = tuple(inode.shown() for inode in inodes_of(files))
+    data = tuple(files.blocks.read_data(inode, 0, inode.size) for inode in inodes_of(files))
+    return (inodes, data, bitmap, files.blocks.free_count(), dict(files.holding))
+
+
+def faults_of(files):
+    """Return what does not agree in a file system, in words."""
+    found = []
+    names = {1: 1}
+    used = set(range(files.layout.data_start))
+    for number, inode in enumerate(inodes_of(files)):
+        if inode.kind == FOLDER:
+            for child in files.entries(number).values():
+                names[child] = names.get(child, 0) + 1
+        for block in files.blocks.blocks_of(inode):
+            if block in used or not files.layout.data_start <= block < files.layout.total:
+                found.append(f"block {block} of inode {number}")
+            used.add(block)
+    for number, inode in enumerate(inodes_of(files)):
+        if inode.kind == FREE and (number in names or files.blocks.blocks_of(inode) != []):
+            found.append(f"free inode {number}")
+        if inode.kind != FREE and inode.links != names.get(number, 0):
+            found.append(f"links of inode {number}")
+        if inode.kind != FREE and inode.links == 0 and files.holding.get(number, 0) == 0:
+            found.append(f"lost inode {number}")
+    for block in range(files.layout.total):
+        if files.blocks.is_used(block) != (block in used):
+            found.append(f"bitmap of block {block}")
+    return found
+
+
+def word_of(deed):
+    """Return the word of the FileError that a deed raises, None if it raises none."""
+    try:
+        deed()
+    except FileError as error:
+        return error.word
+    return None
+
+
+def loss_patterns(many):
+    """Return choices for so many waiting writes: all alike, each one unlike the others, and by turns."""
+    patterns = [(), (1,) * many, (2,) * many]
+    for common in (0, 1, 2):
+        for other in (0, 1, 2):
+            for place in range(many):
+                if common != other:
+                    patterns.append((common,) * place + (other,) + (common,) * (many - place - 1))
+    patterns.append(tuple(place % 2 for place in range(many)))
+    patterns.append(tuple(place % 3 for place in range(many)))
+    patterns.append(tuple((place + 1) % 3 for place in range(many)))
+    return sorted(set(patterns))
+
+
+class FilesCase(unittest.TestCase):
+    def setUp(self):
+        self.files = new_files(64, 400)
+
+    def tearDown(self):
+        self.assertEqual(faults_of(self.files), [])
+        self.assertIsNone(self.files.cache.before)
+
+    def refused(self, word, deed, *more):
+        """Check that a deed is refused with a word and changes nothing."""
+        before = contents(self.files)
+        self.assertEqual(word_of(lambda: deed(*more)), word, more)
+        self.assertEqual(contents(self.files), before)
+        self.assertIsNone(self.files.cache.before)
+
+    def shown(self, path, **more):
+        return self.files.status(path, **more).shown()

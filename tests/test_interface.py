@@ -1,0 +1,125 @@
+"""The names, arguments and default values that the document's interface lists."""
+
+import importlib
+import inspect
+import unittest
+
+from hoststack.device import Device
+from hoststack.files import make_files, mount
+from hoststack.folder import folder_from, split_path
+from hoststack.inode import fresh_inode, inode_bytes
+from hoststack.journal import Journal, head_of, read_head
+from hoststack.layout import Layout
+from hoststack.letters import numbers_of, pair, word_sum
+from hoststack.names import tree_of
+
+INTERFACE = {
+    'letters': ['letter_number(letter)', 'letter_at(number)', 'numbers_of(text)', 'text_of(numbers)',
+                'check_text(text)', 'pair(number)', 'number_of_pair(data, place)', 'word_sum(numbers)'],
+    'device': ['Device(block_size, count, blocks=None)', 'Device.arm(steps)', 'Device.step()', 'Device.read(number)',
+               'Device.write_block(number, data)', 'Device.flush()', 'Device.restarted(choices)'],
+    'journal': ['head_room(block_size, count)', 'head_of(serial, numbers, rows, block_size)', 'read_head(data)',
+                'Journal(device, start, count)', 'Journal.room()', 'Journal.commit(rows)', 'Journal.pending()',
+                'Journal.recover()'],
+    'cache': ['Cache(journal, capacity=16)', 'Cache.read_block(number)', 'Cache.put(number, data)', 'Cache.begin()',
+              'Cache.end()', 'Cache.undo()', 'Cache.sync()'],
+    'layout': ['Layout(block_size, count, inodes)', 'Layout.inode_place(number)', 'Layout.bit_place(number)',
+               'Layout.superblock()', 'layout_from(data)'],
+    'inode': ['Inode(kind, mode, owner, links, size, direct, indirect)', 'Inode.shown()',
+              'fresh_inode(kind, mode, owner)', 'inode_bytes(inode)', 'inode_from(data)', 'may(inode, user, wanted)',
+              'mode_text(inode)'],
+    'blocks': ['Blocks(cache, layout)', 'Blocks.is_used(number)', 'Blocks.free_count()', 'Blocks.inode(number)',
+               'Blocks.most_blocks()', 'Blocks.without_blocks(inode, first)', 'Blocks.blocks_of(inode)',
+               'Blocks.read_data(inode, offset, many)', 'Blocks.write_data(inode, offset, data)',
+               'Blocks.cut_data(inode, size)'],
+    'folder': ['check_name(name)', 'folder_bytes(entries)', 'folder_from(data)', 'split_path(path)',
+               'joined_path(names)'],
+    'files': ['Files(cache, layout)', 'Files.entries(number)', 'Files.put_entries(number, entries)',
+              'Files.resolve(path, start=1, user=0, follow=True, depth=0)',
+              "Files.add(path, start, user, sort, mode, text='')", 'Files.create(path, start=1, user=0, mode=52)',
+              'Files.make_folder(path, start=1, user=0, mode=61)', 'Files.make_link(path, text, start=1, user=0)',
+              'Files.list_folder(path, start=1, user=0)', 'Files.status(path, start=1, user=0, follow=True)',
+              'Files.read(number, offset, many)', 'Files.write(number, offset, text)', 'Files.sync()',
+              'make_files(device, inodes=64, capacity=16)', 'mount(device, capacity=16)'],
+    'names': ['unlink(files, path, start=1, user=0)', 'drop_folder(files, path, start=1, user=0)',
+              'link(files, old, new, start=1, user=0)', 'rename(files, old, new, start=1, user=0)',
+              'depth_of(files, number=1)', 'change_mode(files, path, mode, start=1, user=0)',
+              'change_owner(files, path, owner, start=1, user=0)', 'tree_of(files, number=1)'],
+}
+
+
+def told(module, line):
+    """Return (what stands under a line's name, the arguments that it takes, whether it is a method)."""
+    name = line.partition('(')[0]
+    owner, _, method = name.partition('.')
+    if method != '':
+        return vars(getattr(module, owner))[method], True
+    found = getattr(module, owner)
+    return (vars(found)['__init__'], True) if inspect.isclass(found) else (found, False)
+
+
+class InterfaceTest(unittest.TestCase):
+    def test_names_and_arguments(self):
+        for file, lines in INTERFACE.items():
+            module = importlib.import_module(f"hoststack.{file}")
+            for line in lines:
+                found, is_method = told(module, line)
+                rows = list(inspect.signature(found).parameters.values())[1 if is_method else 0:]
+                self.assertEqual('(' + line.partition('(')[2], f"({', '.join(str(row) for row in rows)})", line)
+                self.assertEqual(found.__module__, f"hoststack.{file}", line)
+
+    def test_file_error(self):
+        module = importlib.import_module('hoststack.errors')
+        self.assertEqual(list(inspect.signature(vars(module.FileError)['__init__']).parameters), ['self', 'word'])
+
+
+class KindsTest(unittest.TestCase):
+    """What "[tuple]", "[list]" and "[table]" tell."""
+
+    def setUp(self):
+        self.device = Device(64, 200)
+        self.files = make_files(self.device)
+        self.number = self.files.create('/f')
+        self.files.write(self.number, 500, 'text')
+
+    def test_tuples(self):
+        blocks = self.files.blocks
+        inode = blocks.inode(self.number)
+        head = head_of(1, (1,), [(0,) * 64], 64)
+        rows = [numbers_of('a'), pair(3), word_sum(()), self.device.read(0), head, read_head(head), read_head(head)[1],
+                read_head(head)[2], Journal(self.device, 1, 25).recover(), self.files.cache.read_block(0),
+                Layout(64, 200, 64).inode_place(1), Layout(64, 200, 64).bit_place(1), Layout(64, 200, 64).superblock(),
+                inode.shown(), inode.direct, inode_bytes(inode), fresh_inode(1, 52, 0).direct,
+                blocks.read_data(inode, 0, 600), blocks.read_data(inode, 0, 0), split_path('a/b'), split_path('a/b')[1],
+                self.files.list_folder('/'), tree_of(self.files)]
+        self.assertEqual([row for row in rows if not isinstance(row, tuple)], [])
+
+    def test_lists(self):
+        blocks = self.files.blocks
+        rows = [self.device.waiting, Journal(self.device, 1, 25).pending(),
+                blocks.blocks_of(blocks.inode(self.number))]
+        self.assertEqual([row for row in rows if not isinstance(row, list)], [])
+
+    def test_tables(self):
+        rows = [self.device.blocks, self.files.cache.blocks, self.files.cache.dirty, folder_from(()),
+                self.files.entries(1), self.files.holding]
+        self.assertEqual([row for row in rows if not isinstance(row, dict)], [])
+
+    def test_nothing(self):
+        cache = self.files.cache
+        found = [self.device.arm(None), self.device.step(), self.device.flush(), cache.begin(),
+                 cache.put(0, cache.read_block(0)), cache.end(), cache.begin(), cache.undo(), cache.sync(),
+                 self.files.sync(), Journal(self.device, 1, 25).commit([])]
+        self.assertEqual(found, [None] * len(found))
+
+    def test_blocks_hold_bytes(self):
+        self.files.make_folder('/d', mode=63)
+        self.files.sync()
+        for data in self.device.blocks.values():
+            self.assertEqual((type(data), len(data)), (tuple, 64))
+            self.assertTrue(all(type(byte) is int and 0 <= byte <= 255 for byte in data))
+        self.assertEqual(tree_of(mount(self.device)), tree_of(self.files))
+
+
+if __name__ == '__main__':
+    unittest.main()
