@@ -41,12 +41,13 @@ class BlocksTest(unittest.TestCase):
         found = [number for number in range(200) if self.blocks.is_used(number)]
         self.assertEqual(found, list(range(self.start)))
         self.assertEqual(self.free, 200 - self.start)
-        for size, count, inodes in ((64, 1200, 2), (100, 801, 50), (64, 31, 4), (512, 65535, 9)):
+        for size, count, inodes in ((64, 1200, 2), (100, 801, 50), (64, 31, 4), (512, 65535, 9), (64, 2000, 1000)):
             files = new_files(size, count, inodes)
             self.assertEqual(files.blocks.free_count(), count - files.layout.data_start)
             self.assertTrue(files.blocks.is_used(files.layout.data_start - 1))
             self.assertFalse(files.blocks.is_used(files.layout.data_start))
             self.assertFalse(files.blocks.is_used(count - 1))
+            self.assertTrue(all(files.blocks.is_used(number) for number in range(files.layout.data_start)))
 
     def test_inodes(self):
         self.assertEqual(self.blocks.inode(1).shown(), ('folder', 63, 0, 1, 0, (0,) * 6, 0))

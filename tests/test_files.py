@@ -298,6 +298,11 @@ class PathTest(FilesCase):
         self.refused('too many links', self.files.create, '/l9/x')
         self.refused('too many links', self.files.list_folder, '/l9')
         self.assertEqual(self.files.list_folder('/l8'), ('g', 'up'))
+        self.files.create('/l8/x')
+        self.files.make_folder('/l7/y/')
+        drop_folder(self.files, '/l8/y')
+        unlink(self.files, '/l8/x')
+        self.assertEqual(self.files.list_folder('/l8'), ('g', 'up'))
 
     def test_a_ring_of_links(self):
         self.files.make_link('/one', 'two')

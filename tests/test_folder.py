@@ -53,6 +53,10 @@ class BytesTest(unittest.TestCase):
             with self.assertRaises(CheckError):
                 folder_from(data)
 
+    def test_a_name_of_no_signs_is_read(self):
+        self.assertEqual(folder_from((0, 1, 0)), {'': 1})
+        self.assertEqual(folder_from((0, 1, 0, 0, 2, 1, 65)), {'': 1, 'a': 2})
+
     def test_a_file_error_is_no_check_error(self):
         with self.assertRaises(FileError):
             folder_from((0, 1, 1, 200))

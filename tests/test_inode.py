@@ -60,6 +60,12 @@ class RightsTest(unittest.TestCase):
                                  (2, 63, 'drwxrwx'), (1, 42, '-r-x-w-'), (1, 21, '--w-r-x')):
             self.assertEqual(mode_text(fresh_inode(kind, mode, 5)), text)
 
+    def test_other_classes(self):
+        self.assertEqual(mode_text(fresh_inode(0, 52, 5)), '-rw-r--')
+        for kind in (4, 255):
+            self.assertEqual(mode_text(fresh_inode(kind, 52, 5)), '-rw-r--')
+            self.assertEqual(fresh_inode(kind, 52, 5).shown()[1:3], (52, 5))
+
     def test_every_mode_text(self):
         for mode in range(64):
             found = mode_text(fresh_inode(2, mode, 5))

@@ -58,6 +58,12 @@ class HeadTest(unittest.TestCase):
         self.assertEqual(set(head[SIZE // 2:]), {0})
         self.assertEqual(read_head(head)[1], numbers)
 
+    def test_a_head_that_fills_its_block(self):
+        numbers = tuple(range(27))
+        head = head_of(1, numbers, [], SIZE)
+        self.assertEqual(len(head), SIZE)
+        self.assertEqual(read_head(head), (1, numbers, head[60:]))
+
     def test_blocks_that_are_no_head(self):
         head = head_of(1, (7, 8), [row(1), row(2)], SIZE)
         self.assertIsNone(read_head(ZEROS))

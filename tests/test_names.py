@@ -287,9 +287,19 @@ class RenameTest(NamesCase):
         change_mode(self.files, '/e', 2)
         self.refuse('denied', rename, '/e/f', '/mine/f', 1, 5)
 
+    def test_a_full_folder(self):
+        self.files = new_files(128, 400, 64)
+        for number in range(30):
+            self.files.create(f"{number:030}")
+        self.files.make_folder('/d')
+        number = self.files.create('/d/f')
+        self.refuse('no space', rename, '/d/f', '/' + 'x' * 28)
+        self.refuse('no space', link, '/d/f', '/' + 'x' * 28)
+        rename(self.files, '/d/f', '/' + 'x' * 27)
+        self.assertEqual((self.files.status('/').size, self.there('x' * 27)), (1024, number))
+        self.refuse('no space', rename, '/d', '/dd')
+
     def test_no_space(self):
-        for number in range(29):
-            self.files.make_folder(f"/a/{number}")
         files = new_files(64, 61, 64)
         self.assertEqual(files.blocks.free_count(), 2)
         files.make_folder('/d')
