@@ -22,10 +22,14 @@ class Device:
         """Let the device crash at the step after so many more; None for never."""
         self.fuse = steps
 
-    def step(self):
-        """Count a step; raise DeviceError if the device has crashed, or crashes now."""
+    def check_alive(self):
+        """Raise DeviceError if the device has crashed."""
         if self.dead:
             raise DeviceError('the device has crashed')
+
+    def step(self):
+        """Count a step; raise DeviceError if the device has crashed, or crashes now."""
+        self.check_alive()
         if self.fuse is not None and self.fuse == 0:
             self.dead = True
             raise DeviceError('the device crashes')
@@ -50,6 +54,8 @@ class Device:
 
     def read(self, number):
         """Return the bytes last written to a block, zeros if it was never written."""
+        # What a crash leaves of the blocks is told by the restarted device alone.
+        self.check_alive()
         self.check_number(number)
         for other, data in reversed(self.waiting):
             if other == number:

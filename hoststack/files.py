@@ -2,7 +2,7 @@
 
 from hoststack.blocks import Blocks
 from hoststack.cache import Cache
-from hoststack.errors import DeviceError, FileError, HostError
+from hoststack.errors import CheckError, DeviceError, FileError, HostError
 from hoststack.folder import check_name, folder_bytes, folder_from, split_path
 from hoststack.inode import FILE, FILE_MODE, FOLDER, FOLDER_MODE, LINK, MOST_MODE
 from hoststack.inode import fresh_inode, inode_bytes, may
@@ -274,7 +274,7 @@ class Files:
         """Return the inode numbers for which a folder's names stand, none if it cannot be read."""
         try:
             entries = self.entries(number)
-        except HostError:
+        except (CheckError, FileError):
             return []
         return [entries[name] for name in sorted(entries)]
 

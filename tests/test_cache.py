@@ -286,6 +286,21 @@ class CrashTest(unittest.TestCase):
                 cache.sync()
             self.assertEqual(sorted(cache.dirty), [10, 11])
 
+    def test_reads_after_the_crash(self):
+        cache = new_cache()
+        change(cache, [(10, row(1))])
+        cache.journal.device.arm(0)
+        with self.assertRaises(DeviceError):
+            cache.sync()
+        before = (dict(cache.blocks), dict(cache.dirty))
+        with self.assertRaises(DeviceError):
+            cache.read_block(11)
+        cache.begin()
+        with self.assertRaises(DeviceError):
+            cache.put(11, row(2))
+        cache.undo()
+        self.assertEqual((cache.blocks, cache.dirty), before)
+
 
 if __name__ == '__main__':
     unittest.main()

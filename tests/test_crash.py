@@ -149,6 +149,26 @@ class CrashTest(unittest.TestCase):
         self.assertIn((files.layout.inodes, tree_of(files)), [(16, (('old', 52, 0, ''),)), (20, ())])
         self.assertEqual(faults_of(files), [])
 
+    def test_a_device_that_has_crashed_is_not_read(self):
+        device = formatted()
+        files = mount(device)
+        number = files.create('/f')
+        files.write(number, 0, 'text')
+        device.arm(3)
+        with self.assertRaises(DeviceError):
+            files.sync()
+        found = mount(Device(64, 110, formatted().blocks))
+        found.cache.journal.device = device
+        for deed in (lambda: mount(device), lambda: make_files(device), lambda: tree_of(found), lambda: found.create('/g'),
+                     lambda: found.read(number, 0, 9), lambda: found.status('/f'), lambda: found.list_folder('/'),
+                     lambda: unlink(found, '/f'), lambda: found.readable_numbers(1), files.sync):
+            found.cache.blocks.clear()
+            with self.assertRaises(DeviceError):
+                deed()
+            self.assertIsNone(files.cache.before)
+        self.assertEqual(device.steps, 3)
+        self.assertEqual(tree_of(mount(device.restarted(()))), ())
+
     def test_a_new_file_system_is_kept(self):
         device = Device(64, 110)
         make_files(device)

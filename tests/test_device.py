@@ -65,6 +65,19 @@ class DeviceTest(unittest.TestCase):
         row[0] = 99
         self.assertEqual(device.read(0), ONE)
 
+    def test_reads_until_the_crash(self):
+        device = Device(4, 3)
+        device.arm(2)
+        device.write_block(0, ONE)
+        device.write_block(0, TWO)
+        self.assertEqual((device.read(0), device.read(1)), (TWO, ZEROS))
+        with self.assertRaises(DeviceError):
+            device.flush()
+        for number in range(3):
+            with self.assertRaises(DeviceError):
+                device.read(number)
+        self.assertEqual(state(device), ({}, [(0, ONE), (0, TWO)], 0, True, 2))
+
     def test_wrong_calls_change_nothing(self):
         device = Device(4, 3)
         device.write_block(0, ONE)
@@ -180,11 +193,14 @@ class CrashTest(unittest.TestCase):
             device.step()
         before = state(device)
         self.assertEqual(before, ({1: TWO}, [(0, ONE)], 0, True, 1))
-        for deed in (device.step, device.flush, lambda: device.write_block(1, ONE)):
+        for deed in (device.step, device.flush, lambda: device.write_block(1, ONE), lambda: device.read(0),
+                     lambda: device.read(1), lambda: device.read(2), lambda: device.read(3)):
             with self.assertRaises(DeviceError):
                 deed()
+            self.assertEqual(state(device), before)
+        found = device.restarted((2,))
+        self.assertEqual((found.read(0), found.read(1), found.read(2)), ((1, 2, 0, 0), TWO, ZEROS))
         self.assertEqual(state(device), before)
-        self.assertEqual((device.read(0), device.read(1)), (ONE, TWO))
         device.arm(None)
         with self.assertRaises(DeviceError):
             device.flush()

@@ -213,6 +213,13 @@ class RecoverTest(unittest.TestCase):
         new_journal(device).recover()
         self.assertEqual((device.steps, device.waiting, device.read(START)), (6, [], ZEROS))
 
+    def test_a_device_that_has_crashed(self):
+        journal = new_journal(self.crashed(5))
+        for deed in (journal.pending, journal.recover, lambda: journal.commit(GROUP)):
+            with self.assertRaises(DeviceError):
+                deed()
+        self.assertEqual(journal.device.steps, 5)
+
     def test_an_empty_journal(self):
         device = new_device()
         self.assertEqual(new_journal(device).pending(), [])

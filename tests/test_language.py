@@ -153,7 +153,8 @@ class LanguageTest(unittest.TestCase):
     def test_errors(self):
         own = {node.name for node in TREES['errors'].body if isinstance(node, ast.ClassDef)}
         for stem, node in nodes(ast.ExceptHandler):
-            self.assertIn(node.type.id, own, (stem, node.lineno))
+            for caught in (node.type.elts if isinstance(node.type, ast.Tuple) else [node.type]):
+                self.assertIn(caught.id, own, (stem, node.lineno))
         for stem, node in nodes(ast.Raise):
             self.assertTrue(node.exc is None or node.exc.func.id in own, (stem, node.lineno))
 
