@@ -2,7 +2,7 @@
 
 from hoststack.blocks import Blocks
 from hoststack.cache import Cache
-from hoststack.errors import CheckError, DeviceError, FileError, HostError
+from hoststack.errors import DeviceError, FileError, HostError
 from hoststack.folder import check_name, folder_bytes, folder_from, split_path
 from hoststack.inode import FILE, FILE_MODE, FOLDER, FOLDER_MODE, LINK, MOST_MODE
 from hoststack.inode import fresh_inode, inode_bytes, may
@@ -15,6 +15,8 @@ MOST_FOLDER_BLOCKS = 8
 MOST_FOLDERS = 30
 MOST_FOLLOWED = 8
 MOST_NAMES = 65535
+# Beside what the bitmap tells of a file's blocks, freeing them changes the inode, the indirect block and its bit.
+BLOCKS_BESIDE = 3
 
 
 class Files:
@@ -231,6 +233,11 @@ class Files:
             self.carry_out(lambda: self.blocks.put_inode(number, self.blocks.write_data(inode, offset, data)))
         return len(text)
 
+    def cut(self, number, size):
+        """Change the size of a file or a folder."""
+        inode = self.blocks.inode(number)
+        self.carry_out(lambda: self.blocks.put_inode(number, self.blocks.cut_data(inode, size)))
+
     def change_names(self, number, many):
         """Count so many more names of an inode, within the open operation; without names and use it is freed."""
         inode = self.blocks.inode(number)
@@ -241,8 +248,25 @@ class Files:
         else:
             self.blocks.put_inode(number, inode.with_links(inode.links + many))
 
+    def empty(self, number):
+        """Free the blocks of a file that nobody can see, the last ones first.
+
+        Each block may stand elsewhere in the bitmap, so that a whole file is no operation for a small journal.
+        """
+        places = self.blocks.places(self.blocks.inode(number))
+        many = max(1, self.cache.journal.room() - BLOCKS_BESIDE)
+        for first in reversed(range(0, len(places), many)):
+            if any(places[first:first + many]):
+                self.cut_places(number, first)
+
+    def cut_places(self, number, first):
+        """Free the blocks of a file from a place on."""
+        inode = self.blocks.inode(number)
+        self.carry_out(lambda: self.blocks.put_inode(number, self.blocks.without_blocks(inode, first)))
+
     def free(self, number):
         """Free an inode and its blocks."""
+        self.empty(number)
         self.carry_out(lambda: self.blocks.free_inode(number))
 
     def hold(self, number):
@@ -274,7 +298,9 @@ class Files:
         """Return the inode numbers for which a folder's names stand, none if it cannot be read."""
         try:
             entries = self.entries(number)
-        except (CheckError, FileError):
+        except HostError:
+            # A damaged folder tells of nothing, but a crashed device is not read.
+            self.cache.journal.device.check_alive()
             return []
         return [entries[name] for name in sorted(entries)]
 

@@ -7,6 +7,7 @@ FILE = 1
 FOLDER = 2
 LINK = 3
 SORTS = ('free', 'file', 'folder', 'link')
+UNKNOWN = 'unknown'
 SIGNS = ('-', '-', 'd', 'l')
 DIRECT = 6
 FILE_MODE = 52
@@ -28,10 +29,13 @@ class Inode:
         self.direct = tuple(direct)
         self.indirect = indirect
 
+    def sort_word(self):
+        """Return the class as a word, also for a number that stands for none."""
+        return SORTS[self.kind] if 0 <= self.kind < len(SORTS) else UNKNOWN
+
     def shown(self):
         """Return (class as a word, mode, owner, links, size, direct blocks, indirect block)."""
-        sort = SORTS[self.kind] if 0 <= self.kind < len(SORTS) else 'unknown'
-        return (sort, self.mode, self.owner, self.links, self.size, self.direct, self.indirect)
+        return (self.sort_word(), self.mode, self.owner, self.links, self.size, self.direct, self.indirect)
 
     def with_links(self, links):
         """Return an inode like this one with another number of links."""

@@ -19,6 +19,19 @@ def in_operation(files, deed):
     return found
 
 
+def damage(files, number, **fields):
+    """Change fields of an inode in the table, and nothing else."""
+    inode = files.blocks.inode(number)
+    for name, worth in fields.items():
+        setattr(inode, name, worth)
+    in_operation(files, lambda: files.blocks.put_inode(number, inode))
+
+
+def set_entries(files, number, entries):
+    """Change the names of a folder, and nothing else."""
+    in_operation(files, lambda: files.put_entries(number, entries))
+
+
 def inodes_of(files):
     return [files.blocks.inode(number) for number in range(files.layout.inodes)]
 
@@ -36,20 +49,20 @@ def contents(files):
 
 
 def faults_of(files):
-    """Return what does not agree in a file system, in words."""
+    """Return what does not agree in a file system, in words; what a free inode tells does not count."""
     found = []
     names = {1: 1}
     used = set(range(files.layout.data_start))
     for number, inode in enumerate(inodes_of(files)):
-        if inode.kind == FOLDER:
+        if inode.kind == FOLDER and number > 0:
             for child in files.entries(number).values():
                 names[child] = names.get(child, 0) + 1
-        for block in files.blocks.blocks_of(inode):
+        for block in files.blocks.blocks_of(inode) if number > 0 and inode.kind != FREE else []:
             if block in used or not files.layout.data_start <= block < files.layout.total:
                 found.append(f"block {block} of inode {number}")
             used.add(block)
-    for number, inode in enumerate(inodes_of(files)):
-        if inode.kind == FREE and (number in names or files.blocks.blocks_of(inode) != []):
+    for number, inode in list(enumerate(inodes_of(files)))[1:]:
+        if inode.kind == FREE and number in names:
             found.append(f"free inode {number}")
         if inode.kind != FREE and inode.links != names.get(number, 0):
             found.append(f"links of inode {number}")

@@ -4,6 +4,8 @@ import importlib
 import inspect
 import unittest
 
+from hoststack.backup import apply_changes, changes, flat
+from hoststack.check import check, count_links
 from hoststack.device import Device
 from hoststack.files import make_files, mount
 from hoststack.folder import folder_from, split_path
@@ -12,6 +14,9 @@ from hoststack.journal import Journal, head_of, read_head
 from hoststack.layout import Layout
 from hoststack.letters import numbers_of, pair, word_sum
 from hoststack.names import tree_of
+from hoststack.opened import Console, Nothing, OpenFile, PipeEnd, Table
+from hoststack.pipe import Pipe
+from hoststack.repair import repair
 
 INTERFACE = {
     'letters': ['letter_number(letter)', 'letter_at(number)', 'numbers_of(text)', 'text_of(numbers)',
@@ -45,6 +50,18 @@ INTERFACE = {
               'link(files, old, new, start=1, user=0)', 'rename(files, old, new, start=1, user=0)',
               'depth_of(files, number=1)', 'change_mode(files, path, mode, start=1, user=0)',
               'change_owner(files, path, owner, start=1, user=0)', 'tree_of(files, number=1)'],
+    'check': ['Report(sorts, blocks, names)', 'Report.shown()', 'count_links(files)', 'check(files)'],
+    'repair': ['repair(files)'],
+    'backup': ['flat(rows, names=())', 'sort_of(content)', 'changes(old, new)', 'is_other_sort(one, other)',
+               'apply_changes(files, rows)', 'changes_text(rows)'],
+    'pipe': ['Pipe(capacity)', 'Pipe.take(many)', 'Pipe.give(text)'],
+    'opened': ['OpenFile(files, number, reads, writes, appends)', 'OpenFile.may_go(writing)', 'OpenFile.take(many)',
+               'OpenFile.give(text)', 'OpenFile.seek(offset)', 'OpenFile.close()', 'PipeEnd(pipe, writing)',
+               'PipeEnd.may_go(writing)', 'PipeEnd.take(many)', 'PipeEnd.give(text)', 'PipeEnd.close()',
+               "Console(entered='')", 'Console.may_go(writing)', 'Console.take(many)', 'Console.give(text)',
+               'Console.close()', 'Nothing()', 'Nothing.may_go(writing)', 'Nothing.take(many)', 'Nothing.give(text)',
+               'Nothing.close()', 'Table()', 'Table.opened(number)', 'Table.put(number, opened)', 'Table.lowest()',
+               'Table.add(opened)', 'Table.close(number)', 'Table.close_all()', 'Table.copied()'],
 }
 
 
@@ -91,7 +108,8 @@ class KindsTest(unittest.TestCase):
                 Layout(64, 200, 64).inode_place(1), Layout(64, 200, 64).bit_place(1), Layout(64, 200, 64).superblock(),
                 inode.shown(), inode.direct, inode_bytes(inode), fresh_inode(1, 52, 0).direct,
                 blocks.read_data(inode, 0, 600), blocks.read_data(inode, 0, 0), split_path('a/b'), split_path('a/b')[1],
-                self.files.list_folder('/'), tree_of(self.files)]
+                self.files.list_folder('/'), tree_of(self.files), check(self.files).shown(), check(self.files).shown()[0],
+                repair(self.files), changes((), tree_of(self.files)), changes((), tree_of(self.files))[0]]
         self.assertEqual([row for row in rows if not isinstance(row, tuple)], [])
 
     def test_lists(self):
@@ -102,14 +120,22 @@ class KindsTest(unittest.TestCase):
 
     def test_tables(self):
         rows = [self.device.blocks, self.files.cache.blocks, self.files.cache.dirty, folder_from(()),
-                self.files.entries(1), self.files.holding]
+                self.files.entries(1), self.files.holding, check(self.files).sorts, count_links(self.files), flat(()),
+                Table().rows]
         self.assertEqual([row for row in rows if not isinstance(row, dict)], [])
 
     def test_nothing(self):
         cache = self.files.cache
         found = [self.device.arm(None), self.device.step(), self.device.flush(), cache.begin(),
                  cache.put(0, cache.read_block(0)), cache.end(), cache.begin(), cache.undo(), cache.sync(),
-                 self.files.sync(), Journal(self.device, 1, 25).commit([])]
+                 self.files.sync(), Journal(self.device, 1, 25).commit([]), apply_changes(self.files, ())]
+        self.assertEqual(found, [None] * len(found))
+
+    def test_nothing_from_what_is_opened(self):
+        table = Table()
+        opened = OpenFile(self.files, self.number, True, True, False)
+        found = [opened.seek(0), opened.close(), PipeEnd(Pipe(1), True).close(), Console().give('a'), Console().close(),
+                 Nothing().give('a'), Nothing().close(), table.put(0, Nothing()), table.close(0), table.close_all()]
         self.assertEqual(found, [None] * len(found))
 
     def test_blocks_hold_bytes(self):
