@@ -6,7 +6,7 @@ from hoststack.folder import joined_path
 from hoststack.inode import DIRECT, FILE, FOLDER, LINK, fresh_inode
 from hoststack.layout import ROOT, parts
 from hoststack.letters import check_text, numbers_of
-from hoststack.names import drop_folder, set_name, unlink
+from hoststack.names import drop_folder, set_name, sort_in_tree, unlink
 
 FOLDER_CONTENT = 'folder'
 LINK_WORD = 'link'
@@ -26,8 +26,7 @@ def listed(rows, names):
     found = []
     for name, mode, owner, content in rows:
         here = names + (name,)
-        # In a tree a text is a file's, also the text "folder".
-        sort = content[0] if isinstance(content, tuple) else FILE_WORD
+        sort = sort_in_tree(content)
         told = FOLDER_CONTENT if sort == FOLDER_CONTENT else content
         found.append((joined_path(here), (mode, owner, sort, told)))
         if sort == FOLDER_CONTENT:

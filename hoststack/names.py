@@ -173,6 +173,11 @@ def content_of(files, number):
     return files.read(number, 0, inode.size)
 
 
+def sort_in_tree(content):
+    """Return the class of a content in a tree as a word: there a text is a file's, also the text "folder"."""
+    return content[0] if isinstance(content, tuple) else 'file'
+
+
 def tree_of(files, number=ROOT):
     """Return what stands below a folder: ((name, mode, owner, content), ..) in ascending order of names.
 

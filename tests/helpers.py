@@ -6,6 +6,10 @@ from hoststack.device import Device
 from hoststack.errors import FileError
 from hoststack.files import make_files
 from hoststack.inode import FOLDER, FREE
+from hoststack.kernel import Kernel
+from hoststack.linetools import line_tool
+from hoststack.opened import Console, Table
+from hoststack.texttools import text_tool
 
 
 def new_files(block_size=64, count=400, inodes=64, capacity=16):
@@ -95,6 +99,59 @@ def loss_patterns(many):
     patterns.append(tuple(place % 3 for place in range(many)))
     patterns.append(tuple((place + 1) % 3 for place in range(many)))
     return sorted(set(patterns))
+
+
+class ToolCase(unittest.TestCase):
+    """Tools as processes of a kernel, with a pipe or the console behind their descriptors."""
+
+    def setUp(self):
+        self.files = new_files(64, 600)
+
+    def put(self, path, text, **more):
+        """Make a file with a text."""
+        number = self.files.create(path, **more)
+        for place in range(0, len(text), 200):
+            self.files.write(number, place, text[place:place + 200])
+        return number
+
+    def text(self, path):
+        number = self.files.resolve(path)
+        return self.files.read(number, 0, self.files.blocks.inode(number).size)
+
+    def program(self, words):
+        return text_tool(words) or line_tool(words)
+
+    def run_tool(self, words, entered='', choices=(), **more):
+        """Return (what descriptor 1 got, what descriptor 2 got, the code) of a tool."""
+        words = words.split() if isinstance(words, str) else words
+        kernel = Kernel(self.files, entered=entered)
+        shown, told = Console(), Console()
+        table = Table()
+        table.put(0, kernel.console)
+        table.put(1, shown)
+        table.put(2, told)
+        process = kernel.process(kernel.start(self.program(words), table, **more))
+        kernel.run(choices)
+        self.assertEqual((kernel.console.written, self.files.holding), ('', {}))
+        return shown.written, told.written, process.code
+
+    def gives(self, words, found, entered='', code=0, told='', **more):
+        """Check what a tool writes, that it complains of nothing, and its code."""
+        self.assertEqual(self.run_tool(words, entered, **more), (found, told, code), words)
+
+    def refuses(self, *rows):
+        """Check that words do not fit."""
+        for words in rows:
+            words = words.split() if isinstance(words, str) else words
+            self.assertEqual(self.run_tool(words, 'entered\n'), ('', words[0] + ': bad arguments\n', 1), words)
+
+    def shown(self, words, entered='', **more):
+        """Return what the console shows of a tool, complaints too, and its code."""
+        words = words.split() if isinstance(words, str) else words
+        kernel = Kernel(self.files, entered=entered)
+        process = kernel.process(kernel.start(self.program(words), kernel.console_table(), **more))
+        kernel.run(())
+        return kernel.console.written, process.code
 
 
 class FilesCase(unittest.TestCase):

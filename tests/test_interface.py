@@ -6,15 +6,20 @@ import unittest
 
 from hoststack.backup import apply_changes, changes, flat
 from hoststack.check import check, count_links
+from hoststack.code import assemble, plain_lines
 from hoststack.device import Device
 from hoststack.files import make_files, mount
 from hoststack.folder import folder_from, split_path
 from hoststack.inode import fresh_inode, inode_bytes
 from hoststack.journal import Journal, head_of, read_head
+from hoststack.kernel import Calls, Kernel
 from hoststack.layout import Layout
 from hoststack.letters import numbers_of, pair, word_sum
+from hoststack.linetools import difference, lines_of, pack_lines, unpack_rows
+from hoststack.machine import load_program
 from hoststack.names import tree_of
 from hoststack.opened import Console, Nothing, OpenFile, PipeEnd, Table
+from hoststack.paging import Frame, Pager, Space
 from hoststack.pipe import Pipe
 from hoststack.repair import repair
 
@@ -62,6 +67,21 @@ INTERFACE = {
                'Console.close()', 'Nothing()', 'Nothing.may_go(writing)', 'Nothing.take(many)', 'Nothing.give(text)',
                'Nothing.close()', 'Table()', 'Table.opened(number)', 'Table.put(number, opened)', 'Table.lowest()',
                'Table.add(opened)', 'Table.close(number)', 'Table.close_all()', 'Table.copied()'],
+    'paging': ['Frame(words)', 'Pager(count, slots=1000)', 'Pager.release(space)', 'Space(pager, pages)',
+               'Space.word_count()', 'Space.load_word(address)', 'Space.store_word(address, word)', 'Space.grow(pages)',
+               'Space.forked()', 'Space.all_words()'],
+    'kernel': ['Process(number, parent, program, table, folder, user)',
+               "Kernel(files, frames=8, pipe_size=16, entered='')", 'Kernel.console_table()',
+               'Kernel.start(program, table, folder=1, user=0, parent=0)', 'Kernel.has_room()', 'Kernel.process(number)',
+               'Kernel.children(number)', 'Kernel.can_go(process)', 'Kernel.ready()', 'Kernel.alive()',
+               'Kernel.step(number)', 'Kernel.end(process, code)', 'Kernel.kill(number)',
+               'Kernel.run(choices, most=100000)', 'Calls(kernel, process)', 'Calls.read(number, many)',
+               'Calls.write(number, text)', 'Calls.close(number)', 'Calls.start(program, table)', 'Calls.wait(number)',
+               'Calls.wait_any()'],
+    'code': ['plain_lines(text)', 'assemble(text)', 'disassemble(rows)'],
+    'machine': ['load_program(kernel, rows)', 'is_fault(code)', 'file_text(files, number)'],
+    'tools': ['is_number(text)'],
+    'linetools': ['lines_of(text)', 'difference(one, other)', "pack_lines(rows, prefix='')", 'unpack_rows(text)'],
 }
 
 
@@ -109,19 +129,22 @@ class KindsTest(unittest.TestCase):
                 inode.shown(), inode.direct, inode_bytes(inode), fresh_inode(1, 52, 0).direct,
                 blocks.read_data(inode, 0, 600), blocks.read_data(inode, 0, 0), split_path('a/b'), split_path('a/b')[1],
                 self.files.list_folder('/'), tree_of(self.files), check(self.files).shown(), check(self.files).shown()[0],
+                Space(Pager(1), 1).all_words(), assemble('say r0'), assemble('say r0')[0], self.heard(),
                 repair(self.files), changes((), tree_of(self.files)), changes((), tree_of(self.files))[0]]
         self.assertEqual([row for row in rows if not isinstance(row, tuple)], [])
 
     def test_lists(self):
         blocks = self.files.blocks
-        rows = [self.device.waiting, Journal(self.device, 1, 25).pending(),
+        kernel = Kernel(self.files)
+        rows = [Frame([]).words, Frame([]).owners, Pager(1).frames, kernel.children(1), kernel.ready(), kernel.alive(),
+                plain_lines('a'), lines_of('a'), difference([], []), pack_lines(()), unpack_rows('#pack'), self.device.waiting, Journal(self.device, 1, 25).pending(),
                 blocks.blocks_of(blocks.inode(self.number))]
         self.assertEqual([row for row in rows if not isinstance(row, list)], [])
 
     def test_tables(self):
         rows = [self.device.blocks, self.files.cache.blocks, self.files.cache.dirty, folder_from(()),
                 self.files.entries(1), self.files.holding, check(self.files).sorts, count_links(self.files), flat(()),
-                Table().rows]
+                Table().rows, Pager(1).swapped, Kernel(self.files).processes]
         self.assertEqual([row for row in rows if not isinstance(row, dict)], [])
 
     def test_nothing(self):
@@ -137,6 +160,22 @@ class KindsTest(unittest.TestCase):
         found = [opened.seek(0), opened.close(), PipeEnd(Pipe(1), True).close(), Console().give('a'), Console().close(),
                  Nothing().give('a'), Nothing().close(), table.put(0, Nothing()), table.close(0), table.close_all()]
         self.assertEqual(found, [None] * len(found))
+
+    def heard(self):
+        """Return what a process without children hears."""
+        kernel = Kernel(self.files)
+        return Calls(kernel, kernel.process(kernel.start(load_program(kernel, ()), Table()))).wait_any()
+
+    def test_nothing_from_processes(self):
+        kernel = Kernel(self.files)
+        space = Space(kernel.pager, 1)
+        first, second = [kernel.process(kernel.start(load_program(kernel, ()), Table())) for _ in range(2)]
+        first.table.put(0, Nothing())
+        found = [space.store_word(0, 1), space.grow(1), kernel.pager.release(space), Calls(kernel, first).close(0),
+                 kernel.step(1), kernel.kill(2)]
+        kernel.start(load_program(kernel, ()), Table())
+        found.append(kernel.end(kernel.process(3), 5))
+        self.assertEqual((found, first.code, second.code), ([None] * 7, 0, 137))
 
     def test_blocks_hold_bytes(self):
         self.files.make_folder('/d', mode=63)

@@ -15,7 +15,7 @@ BUILTINS = set('''len range enumerate zip min max sum abs sorted reversed int st
     isinstance ord repr any all divmod ValueError KeyError super'''.split())
 METHODS = set('''append clear copy count endswith extend find get index insert isalnum isalpha isdigit islower isspace
     isupper items join keys ljust lower lstrip partition pop remove replace reverse rfind rjust rpartition rsplit
-    rstrip setdefault split splitlines startswith strip update upper values zfill bit_length'''.split())
+    rstrip setdefault split splitlines startswith strip update upper values zfill bit_length isascii'''.split())
 BARRED = set('''mro elements open input law version_info with_traceback add_note register attrgetter breakpoint
     builtins compile copyright credits delattr dir eval exec exit gc getattr globals hasattr help id importlib license
     locals methodcaller os quit setattr type vars sys typing enum dataclass'''.split())
@@ -93,7 +93,7 @@ class LanguageTest(unittest.TestCase):
             for place, node in enumerate(tree.body):
                 self.assertTrue(isinstance(node, kinds) or place == 0, (stem, node.lineno))
                 if isinstance(node, ast.Assign):
-                    ast.literal_eval(node.value)
+                    self.check_plain(node.value, bound)
                     bound.extend(target.id for target in node.targets)
                 if isinstance(node, ast.ImportFrom):
                     bound.extend(alias.name for alias in node.names)
@@ -105,6 +105,19 @@ class LanguageTest(unittest.TestCase):
             for node in ast.walk(tree):
                 if isinstance(node, (ast.FunctionDef, ast.Lambda)):
                     self.assertEqual(assigned(node) & (classes | imports), set(), stem)
+
+    def check_plain(self, value, bound):
+        """A module-level value is plain; a dict may also have functions that are defined above."""
+        if isinstance(value, ast.Dict) and any(isinstance(row, ast.Name) for row in value.values):
+            self.assertEqual([row.id for row in value.values if row.id not in bound], [])
+            value = ast.List(elts=value.keys)
+        ast.literal_eval(value)
+
+    def test_no_method_is_read_off_a_class(self):
+        classes = {node.name for stem, node in nodes(ast.ClassDef)}
+        for stem, node in nodes(ast.Attribute):
+            if isinstance(node.value, ast.Name) and node.value.id in classes:
+                self.assertEqual(node.attr, '__init__', (stem, node.lineno))
 
     def test_names(self):
         for stem, tree in TREES.items():
@@ -132,6 +145,18 @@ class LanguageTest(unittest.TestCase):
             for name in methods:
                 self.assertFalse(name in BARRED or name in dir(str) + dir(list) + dir(dict) and name not in METHODS
                                  and not name.startswith('__'), name)
+
+    def test_no_name_is_a_method_and_an_attribute(self):
+        classes = {node.name: node for stem, node in nodes(ast.ClassDef)}
+        for name in classes:
+            methods, attributes, waiting = set(), set(), [name]
+            while waiting:
+                node = classes[waiting.pop()]
+                waiting.extend(base.id for base in node.bases if base.id in classes)
+                methods.update(row.name for row in node.body if isinstance(row, ast.FunctionDef))
+                attributes.update(row.attr for row in ast.walk(node) if isinstance(row, ast.Attribute)
+                                  and isinstance(row.ctx, ast.Store))
+            self.assertEqual(methods & attributes, set(), name)
 
     def test_values(self):
         for stem, node in nodes(ast.Constant):
