@@ -127,14 +127,13 @@ def make(files, path, rights, content):
     elif sort == LINK_WORD:
         number = files.make_link(path, content[1])
     else:
-        check_text(content)
         number = files.create(path, mode=mode)
         write_new(files, path, number, content)
     put_rights(files, number, mode, owner)
 
 
 def write_new(files, path, number, text):
-    """Write a text into a new file, which is dropped again if there is no room for it."""
+    """Write a text into a new file, which is dropped again if it cannot hold it."""
     try:
         write_over(files, number, text)
     except FileError:

@@ -227,12 +227,25 @@ class ApplyTest(unittest.TestCase):
         link(files, '/f', '/g')
         self.refused('no space', ('make', '/h', 52, 0, 'x' * 64 * (free + 1)))
         self.refused('no space', ('write', '/f', 'x' * 64 * (free + 1)))
+        self.refused('too large', ('write', '/f', 'x' * (38 * 64 + 1)))
+        self.refused('bad text', ('write', '/f', 'x' * 300 + '%'))
         unlink(files, '/g')
         self.refused('no space', ('write', '/f', 'x' * (64 * (free + 1) + 1)))
         apply_changes(files, [('write', '/f', 'x' * 64 * free)])
         self.assertEqual(files.blocks.free_count(), 0)
         apply_changes(files, [('write', '/f', 'y' * 64 * free)])
         self.assertEqual(files.read(2, 0, 9999), 'y' * 64 * free)
+
+    def test_six_blocks_need_no_indirect_one(self):
+        for many in (5, 6, 7):
+            self.files = files = new_files(64, 45, 16)
+            files.write(files.create('/f'), 0, 'x' * 64)
+            rest = files.blocks.free_count() + 1 - (many if many < 7 else many + 1)
+            files.write(files.create('/rest'), 0, 'x' * 64 * min(rest, 3))
+            files.write(files.create('/more'), 0, 'x' * 64 * (rest - 3))
+            self.refused('no space', ('write', '/f', 'x' * (64 * many + 1)))
+            apply_changes(files, [('write', '/f', 'y' * 64 * many)])
+            self.assertEqual((files.read(2, 0, 999), files.blocks.free_count()), ('y' * 64 * many, 0))
 
     def test_no_inodes(self):
         self.files = files = new_files(64, 200, 3)

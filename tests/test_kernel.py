@@ -53,7 +53,7 @@ class FieldsTest(KernelCase):
     def test_kernels(self):
         kernel = Kernel(self.files, 3, 5, 'text')
         self.assertIs(kernel.files, self.files)
-        self.assertEqual((kernel.processes, kernel.steps, len(kernel.pager.frames)), ({}, 0, 3))
+        self.assertEqual((kernel.processes, kernel.steps, len(kernel.pager.frames), kernel.pipe_size), ({}, 0, 3, 5))
         self.assertIsInstance(kernel.console, Console)
         self.assertEqual((kernel.console.written, kernel.console.take(9)), ('', 'text'))
         self.assertEqual(len(Kernel(self.files).pager.frames), 8)
@@ -261,7 +261,7 @@ class PipeTest(KernelCase):
         processes = list(self.kernel.processes.values())
         with self.assertRaises(StuckError):
             self.kernel.run(())
-        self.assertEqual([process.code for process in processes], [137, 137])
+        self.assertEqual([(process.code, process.waits) for process in processes], [(137, None), (137, None)])
         self.assertEqual((self.kernel.processes, self.kernel.steps), ({}, 2))
         self.assertEqual((one.readers, one.writers, other.readers, other.writers), (0, 0, 0, 0))
 
@@ -514,6 +514,8 @@ class CallsTest(KernelCase):
         files.make_link('/d/l', 'f')
         number = self.calls.open_to_read('l')
         self.assertEqual((number, self.calls.read(number, 9)), (3, 'text'))
+        self.assertEqual(word_of(lambda: self.calls.read(self.calls.open_to_write('f', True), 1)), 'not readable')
+        self.calls.close(4)
         self.assertEqual(word_of(lambda: self.calls.write(number, 'x')), 'not writable')
         self.assertEqual(self.calls.write(self.calls.open_to_write('f', True), 's'), 1)
         self.assertEqual(files.read(files.resolve('/d/f'), 0, 9), 'texts')

@@ -297,10 +297,11 @@ class TableTest(unittest.TestCase):
         with self.assertRaises(DeviceError):
             device.flush()
         files.cache.blocks.clear()
-        for deed in (lambda: self.table.close(0), lambda: self.table.put(0, Nothing()), self.table.close_all):
+        nothing = Nothing()
+        for deed in (lambda: self.table.close(0), lambda: self.table.put(0, nothing), self.table.close_all):
             with self.assertRaises(DeviceError):
                 deed()
-            self.assertEqual((self.table.rows, opened.holders), ({0: opened}, 1))
+            self.assertEqual((self.table.rows, opened.holders, nothing.holders), ({0: opened}, 1, 0))
 
     def test_by_chance(self):
         for seed in range(20):

@@ -138,6 +138,17 @@ class CountTest(unittest.TestCase):
             space.load_word(address)
             self.assertEqual((counts(pager), space.table), (told, table), address)
 
+    def test_three_frames_by_hand(self):
+        pager = Pager(3)
+        space = Space(pager, 8)
+        # The page that is used, and the pages in the three frames behind that.
+        rows = ((0, (0,)), (1, (0, 1)), (2, (0, 1, 2)), (3, (3, 1, 2)), (2, (3, 1, 2)), (4, (3, 4, 2)), (5, (3, 4, 5)),
+                (3, (3, 4, 5)), (6, (3, 6, 5)), (7, (7, 6, 5)), (6, (7, 6, 5)), (0, (7, 6, 0)))
+        for page, pages in rows:
+            space.load_word(8 * page)
+            self.assertEqual(tuple(frame.owners[0][1] for frame in pager.frames if frame is not None), pages, page)
+        self.assertEqual(counts(pager), (9, 6, 0))
+
     def test_one_frame(self):
         pager = Pager(1)
         space = Space(pager, 2)

@@ -336,6 +336,44 @@ class LostTest(RepairCase):
         self.repaired(('dropped', 5), ('found', 4), ('counted', 2))
         self.assertEqual(self.files.list_folder('/found/lost4/e'), ('f',))
 
+    def test_a_lost_folder_with_a_name_for_the_root(self):
+        drop_name(self.files, 1, 'd')
+        set_entries(self.files, 5, {'r': 1, 'f': 2})
+        self.repaired(('dropped', 5), ('found', 4), ('counted', 2))
+        self.assertEqual(self.files.list_folder('/'), ('a', 'b', 'found', 'l', 'none'))
+
+    def test_folders_in_use(self):
+        self.files.hold(4)
+        self.files.hold(5)
+        drop_name(self.files, 4, 'e')
+        self.assertEqual(repair(self.files), (('counted', 5),))
+        check(self.files)
+        drop_name(self.files, 1, 'd')
+        self.assertEqual(repair(self.files), (('found', 4),))
+        check(self.files)
+        self.files.let_go(5)
+        self.files.let_go(4)
+        self.repaired()
+        self.assertEqual(self.files.list_folder('/found/lost4'), ('b',))
+
+    def test_a_folder_in_use_without_room(self):
+        self.files.create('/found')
+        self.files.hold(4)
+        drop_name(self.files, 1, 'd')
+        self.repaired(('freed', 4), ('freed', 5), ('counted', 3))
+        self.files.let_go(4)
+        self.repaired()
+
+    def test_an_open_file_without_room(self):
+        self.files.create('/found')
+        self.files.hold(2)
+        drop_name(self.files, 1, 'a')
+        self.assertEqual(repair(self.files), (('counted', 2),))
+        check(self.files)
+        self.assertEqual(self.files.read(2, 0, 200), 'a' * 150)
+        self.files.let_go(2)
+        self.repaired()
+
     def test_what_hangs_on_a_ring(self):
         files = self.files = new_files()
         for path in ('/x', '/a', '/a/b', '/a/b/c'):

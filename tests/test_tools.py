@@ -93,6 +93,17 @@ class ToolTest(ToolCase):
             kernel.run(())
             self.assertEqual((kernel.console.written, process.code), (found, code))
 
+    def test_files_are_closed_before_the_next_one(self):
+        for name in 'abc':
+            self.put('/' + name, name)
+        kernel = Kernel(self.files)
+        number = kernel.start(text_tool(['sort', '/a', '/x', '/b', '/', '/c']), kernel.console_table())
+        most = 0
+        while kernel.alive() != []:
+            most = max(most, len(kernel.process(number).table.rows))
+            kernel.step(number)
+        self.assertEqual((most, kernel.console.written), (4, 'sort: missing\nsort: not a file\nabc\n'))
+
     def test_nowhere_to_complain(self):
         kernel = Kernel(self.files)
         table = kernel.console_table()
@@ -342,6 +353,23 @@ class TeeTest(ToolCase):
         self.gives('tee /d', 'text', 'text', told='tee: not a file\n', code=1)
         self.gives('tee /x/y', 'text', 'text', told='tee: missing\n', code=1)
         self.refuses('tee', 'tee -a', 'tee /a /b', 'tee -a /a /b')
+
+    def test_nowhere_to_write(self):
+        kernel = Kernel(self.files, entered='text')
+        table = kernel.console_table()
+        table.close(1)
+        process = kernel.process(kernel.start(text_tool(['tee', '/f']), table))
+        kernel.run(())
+        # The file gets the number that was free, 1, and so all that is written.
+        self.assertEqual((kernel.console.written, process.code, self.text('/f')), ('', 0, 'texttext'))
+
+    def test_descriptor_one_that_cannot_be_written(self):
+        kernel = Kernel(self.files, entered='text')
+        table = kernel.console_table()
+        table.put(1, PipeEnd(Pipe(1), False))
+        process = kernel.process(kernel.start(text_tool(['tee', '/f']), table))
+        kernel.run(())
+        self.assertEqual((kernel.console.written, process.code), ('tee: not writable\n', 1))
 
     def test_a_file_that_becomes_too_large(self):
         text = ''.join(f'{number}\n' for number in range(700))
