@@ -72,9 +72,6 @@ def assemble(text):
 def row_of(number, words, labels):
     """Return the row of a line."""
     word, *operands = words
-    if word == 'jumpif' and len(operands) == 1:
-        # The document tells of no register here; without one r0 is asked.
-        operands.insert(0, REGISTERS[0])
     form = FORMS.get(word, None)
     if form is None or len(form) != len(operands):
         raise CodeError('line ' + str(number) + ' is no instruction')

@@ -67,7 +67,8 @@ class AssembleTest(unittest.TestCase):
                    'a:\njump A', 'a: say r0', 'jump 0', 'a::')
 
     def test_a_jumpif_without_a_register(self):
-        self.assertEqual(assemble('a:\njumpif a'), assemble('a:\njumpif r0 a'))
+        self.wrong('a:\njumpif a', 'jumpif end\nend:', 'a:\njumpif a\n', 'r1:\njumpif r1', 'a:\njumpif a r0', 'a:\njumpif 0 a')
+        self.assertEqual(assemble('a:\njumpif r0 a'), (('jumpif', 0, 0),))
 
     def test_lines_that_are_none(self):
         self.wrong('a', 'set', 'set r0', 'set r0 1 2', 'set 1 r0', 'SET r0 1', 'say', 'say r0 r1', 'say 1', 'add r0 r1',

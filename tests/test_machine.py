@@ -112,7 +112,7 @@ class JumpTest(MachineCase):
     def test_unless_zero(self):
         for number, found in ((0, '1\n'), (1, ''), (-1, ''), (LEAST, '')):
             self.written(f'set r5 {number}\nset r1 1\njumpif r5 end\nsay r1\nend:', found)
-            self.written(f'set r0 {number}\nset r1 1\njumpif end\nsay r1\nend:', found)
+            self.written(f'set r0 {number}\nset r1 1\njumpif r0 end\nsay r1\nend:', found)
 
     def test_pid(self):
         self.written('pid r0\nsay r0', '1\n')
