@@ -5,14 +5,16 @@ goes on; and a method leave(), which gives back what the program has when its pr
 """
 
 from hoststack.errors import DeviceError, FileError, HostError, PipeError, ProcessError, StuckError
+from hoststack.inode import FOLDER
 from hoststack.layout import ROOT
-from hoststack.opened import Console, OpenFile, Table
+from hoststack.opened import Console, Nothing, OpenFile, Table
 from hoststack.paging import Pager
 
 MOST_PROCESSES = 60
 FAULT_CODE = 139
 KILLED_CODE = 137
 BROKEN_CODE = 141
+NOTHING_PATH = '/dev/null'
 
 
 class Process:
@@ -63,7 +65,11 @@ class Kernel:
 
     def has_room(self):
         """Return True if another process may start."""
-        return len(self.processes) < MOST_PROCESSES
+        return self.room() > 0
+
+    def room(self):
+        """Return how many more processes may start."""
+        return MOST_PROCESSES - len(self.processes)
 
     def process(self, number):
         """Return a process; raise ProcessError for an unknown one."""
@@ -236,15 +242,26 @@ class Calls:
 
     def open_to_read(self, path):
         """Return a new descriptor that leads to a file to be read."""
-        number = self.file_at(path, 'r')
-        return self.caller.table.add(OpenFile(self.kernel.files, number, True, False, False))
+        return self.caller.table.add(self.readable(path))
+
+    def readable(self, path):
+        """Return what a path leads to, opened to be read."""
+        if path == NOTHING_PATH:
+            return Nothing()
+        return OpenFile(self.kernel.files, self.file_at(path, 'r'), True, False, False)
 
     def open_to_write(self, path, appends):
-        """Return a new descriptor that leads to a file to be written.
+        """Return a new descriptor that leads to a file to be written."""
+        return self.caller.table.add(self.writable(path, appends))
 
-        A missing one is made; one that is there is emptied, unless writes go to its end.
+    def writable(self, path, appends):
+        """Return what a path leads to, opened to be written.
+
+        A missing file is made; one that is there is emptied, unless writes go to its end.
         """
         files = self.kernel.files
+        if path == NOTHING_PATH:
+            return Nothing()
         try:
             number = self.file_at(path, 'w')
         except FileError as error:
@@ -253,4 +270,15 @@ class Calls:
             number = files.create(path, self.caller.folder, self.caller.user)
         if not appends:
             files.cut(number, 0)
-        return self.caller.table.add(OpenFile(files, number, False, True, appends))
+        return OpenFile(files, number, False, True, appends)
+
+    def enter(self, path):
+        """Let a path be the process's folder."""
+        files = self.kernel.files
+        number = files.resolve(path, self.caller.folder, self.caller.user)
+        if files.blocks.inode(number).kind != FOLDER:
+            raise FileError('not a folder')
+        files.need(number, self.caller.user, 'x')
+        files.hold(number)
+        files.let_go(self.caller.folder)
+        self.caller.folder = number

@@ -37,6 +37,11 @@ def check_text(text):
     return text
 
 
+def is_name_letter(letter):
+    """Return True if a character may stand in a variable's name."""
+    return letter == '_' or (letter.isascii() and letter.isalnum())
+
+
 def pair(number):
     """Return a number from 0 on as two bytes, the higher first."""
     return (number // 256 % 256, number % 256)

@@ -5,7 +5,7 @@ from hoststack.inode import FILE, FOLDER
 from hoststack.letters import letter_number
 from hoststack.names import change_mode, sort_in_tree, tree_of
 from hoststack.opened import OpenFile
-from hoststack.tools import LineTool, TextTool, Tool, is_number, refusal
+from hoststack.tools import LineTool, TextTool, Tool, is_number
 
 PACK_MARK = '#pack'
 PACK_WORDS = ('file', 'link', 'folder')
@@ -313,16 +313,7 @@ def make_unpack(words):
     return Unpack(words) if len(words) > 1 else None
 
 
-MAKERS = {
+LINE_MAKERS = {
     'cut': make_cut, 'sum': make_sum, 'paste': make_paste, 'cmp': make_cmp, 'diff': make_diff, 'pack': make_pack,
     'unpack': make_unpack,
 }
-
-
-def line_tool(words):
-    """Return the line tool that words ask for, one that complains if they do not fit; None for another name."""
-    if words[0] not in MAKERS:
-        return None
-    maker = MAKERS[words[0]]
-    tool = maker(words)
-    return refusal(words) if tool is None else tool

@@ -1,7 +1,7 @@
 """Text tools: programs that read files one after another, or descriptor 0, and write what they make of them."""
 
 from hoststack.errors import FileError
-from hoststack.tools import LineTool, TextTool, is_number, refusal
+from hoststack.tools import LineTool, TextTool, is_number
 
 LINES_WITHOUT_NUMBER = 10
 
@@ -284,16 +284,7 @@ def make_tee(words):
     return Tee(words, paths[0], appends) if len(paths) == 1 else None
 
 
-MAKERS = {
+TEXT_MAKERS = {
     'cat': make_cat, 'head': make_head, 'tail': make_tail, 'wc': make_wc, 'grep': make_grep, 'sort': make_sort,
     'uniq': make_uniq, 'rev': make_rev, 'replace': make_replace, 'tr': make_tr, 'tee': make_tee,
 }
-
-
-def text_tool(words):
-    """Return the text tool that words ask for, one that complains if they do not fit; None for another name."""
-    if words[0] not in MAKERS:
-        return None
-    maker = MAKERS[words[0]]
-    tool = maker(words)
-    return refusal(words) if tool is None else tool

@@ -2,14 +2,15 @@
 
 import unittest
 
+from hoststack.check import check
 from hoststack.device import Device
 from hoststack.errors import FileError
 from hoststack.files import make_files
+from hoststack.filetools import make_tool
+from hoststack.host import new_host
 from hoststack.inode import FOLDER, FREE
 from hoststack.kernel import Kernel
-from hoststack.linetools import line_tool
 from hoststack.opened import Console, Table
-from hoststack.texttools import text_tool
 
 
 def new_files(block_size=64, count=400, inodes=64, capacity=16):
@@ -118,9 +119,6 @@ class ToolCase(unittest.TestCase):
         number = self.files.resolve(path)
         return self.files.read(number, 0, self.files.blocks.inode(number).size)
 
-    def program(self, words):
-        return text_tool(words) or line_tool(words)
-
     def run_tool(self, words, entered='', choices=(), **more):
         """Return (what descriptor 1 got, what descriptor 2 got, the code) of a tool."""
         words = words.split() if isinstance(words, str) else words
@@ -130,7 +128,7 @@ class ToolCase(unittest.TestCase):
         table.put(0, kernel.console)
         table.put(1, shown)
         table.put(2, told)
-        process = kernel.process(kernel.start(self.program(words), table, **more))
+        process = kernel.process(kernel.start(make_tool(words), table, **more))
         kernel.run(choices)
         self.assertEqual((kernel.console.written, self.files.holding), ('', {}))
         return shown.written, told.written, process.code
@@ -149,9 +147,48 @@ class ToolCase(unittest.TestCase):
         """Return what the console shows of a tool, complaints too, and its code."""
         words = words.split() if isinstance(words, str) else words
         kernel = Kernel(self.files, entered=entered)
-        process = kernel.process(kernel.start(self.program(words), kernel.console_table(), **more))
+        process = kernel.process(kernel.start(make_tool(words), kernel.console_table(), **more))
         kernel.run(())
         return kernel.console.written, process.code
+
+
+class HostCase(unittest.TestCase):
+    """Scripts that a host runs; after each there is nothing left of them but files."""
+
+    def setUp(self):
+        self.host = new_host(Device(128, 900), 200)
+        self.files = self.host.files
+
+    def run_script(self, script, **more):
+        """Return (text, code) of a script."""
+        result = self.host.run(script, **more)
+        self.check_end()
+        return result.shown()
+
+    def check_end(self):
+        """Check that no process, open file, frame or swapped page is left, and that the file system is in order."""
+        kernel = self.host.kernel
+        self.assertEqual((kernel.processes, self.files.holding, kernel.pager.swapped), ({}, {}, {}))
+        self.assertEqual([frame for frame in kernel.pager.frames if frame is not None], [])
+        check(self.files)
+
+    def gives(self, script, text, code=0, **more):
+        """Check what a script writes to the console, and its code."""
+        self.assertEqual(self.run_script(script, **more), (text, code), script)
+
+    def put(self, path, text, **more):
+        """Make a file with a text."""
+        number = self.files.create(path, **more)
+        for place in range(0, len(text), 200):
+            self.files.write(number, place, text[place:place + 200])
+        return number
+
+    def text(self, path):
+        number = self.files.resolve(path)
+        return self.files.read(number, 0, self.files.blocks.inode(number).size)
+
+    def names(self, path='/'):
+        return self.files.list_folder(path)
 
 
 class FilesCase(unittest.TestCase):

@@ -7,21 +7,30 @@ import unittest
 from hoststack.backup import apply_changes, changes, flat
 from hoststack.check import check, count_links
 from hoststack.code import assemble, plain_lines
+from hoststack.commands import Commands
 from hoststack.device import Device
+from hoststack.expand import Expansion, closed, matching_paths, moved
 from hoststack.files import make_files, mount
 from hoststack.folder import folder_from, split_path
+from hoststack.host import Host, Result
 from hoststack.inode import fresh_inode, inode_bytes
 from hoststack.journal import Journal, head_of, read_head
 from hoststack.kernel import Calls, Kernel
 from hoststack.layout import Layout
 from hoststack.letters import numbers_of, pair, word_sum
 from hoststack.linetools import difference, lines_of, pack_lines, unpack_rows
+from hoststack.locks import Locks
 from hoststack.machine import load_program
 from hoststack.names import tree_of
 from hoststack.opened import Console, Nothing, OpenFile, PipeEnd, Table
 from hoststack.paging import Frame, Pager, Space
 from hoststack.pipe import Pipe
 from hoststack.repair import repair
+from hoststack.scheduler import Scheduler, run_scheduled
+from hoststack.script import assignment, check_depth, parse_script
+from hoststack.shell import ShellProgram
+from hoststack.sums import parse_sum, sum_words
+from hoststack.words import Token
 
 INTERFACE = {
     'letters': ['letter_number(letter)', 'letter_at(number)', 'numbers_of(text)', 'text_of(numbers)',
@@ -82,6 +91,29 @@ INTERFACE = {
     'machine': ['load_program(kernel, rows)', 'is_fault(code)', 'file_text(files, number)'],
     'tools': ['is_number(text)'],
     'linetools': ['lines_of(text)', 'difference(one, other)', "pack_lines(rows, prefix='')", 'unpack_rows(text)'],
+    'filetools': ['is_tool(name)', 'make_tool(words)'],
+    'words': ['Token(kind, parts=())', 'Token.shown()', 'plain_text(parts)', 'is_name(text)'],
+    'sums': ['sum_words(text)', 'parse_sum(text)', 'sum_text(tree, level=1)', 'number_from(text)',
+             'sum_value(tree, variables)'],
+    'script': ['assignment(parts)', 'parse_script(text, depth=0)', 'check_depth(tree)'],
+    'scripttext': ['word_text(parts)', 'node_text(node)', 'script_text(node)'],
+    'expand': ['Expansion(words, splits)', 'Expansion.is_done()', 'Expansion.next_script()',
+               'Expansion.go(variables, code, names)', 'Expansion.add(text, quoted, splits)', 'is_pattern(letters)',
+               'matches(text, letters)', 'closed(places, letters)', 'moved(places, sign, letters)',
+               'matching_paths(files, folder, user, letters)', 'is_there(files, folder, user, path)'],
+    'commands': ['Commands(variables, code)', 'Commands.give(words)'],
+    'shell': ['ShellProgram(node, variables=None, code=0, functions=None)', 'ShellProgram.leave()',
+              'ShellProgram.step(calls)', 'ShellProgram.begin(calls, node)'],
+    'host': ['Result(text, code, steps)', 'Result.shown()', 'Host(files, frames=8, pipe_size=16, user=0)',
+             "Host.run(text, choices=(), entered='', most=100000)", 'Host.is_script(text)', 'Host.tree()',
+             'new_host(device, inodes=64, capacity=16)', 'host_of(device, capacity=16)'],
+    'scheduler': ['Scheduler(policy, quantum=1, seed=1)', 'Scheduler.set_weight(number, weight)',
+                  'Scheduler.weight(number)', 'Scheduler.choose(ready)',
+                  'run_scheduled(kernel, scheduler, most=100000)', 'longest_wait(order, number)'],
+    'locks': ['Locks()', 'Locks.holders_of(name)', 'Locks.fits(who, name, how)', 'Locks.ahead(who, name)',
+              'Locks.blockers(who, name, how)', 'Locks.ask(who, name, how)', 'Locks.take(who, name, how)',
+              'Locks.waits_for(who)', 'Locks.in_ring(who)', 'Locks.release(who, name)', 'Locks.leave(who)',
+              'Locks.shown()'],
 }
 
 
@@ -176,6 +208,38 @@ class KindsTest(unittest.TestCase):
         kernel.start(load_program(kernel, ()), Table())
         found.append(kernel.end(kernel.process(3), 5))
         self.assertEqual((found, first.code, second.code), ([None] * 7, 0, 137))
+
+    def test_kinds_of_scripts(self):
+        tree = parse_script('a $(b)')
+        expansion = Expansion(tree[1][0][2][1:], True)
+        locks = Locks()
+        locks.take(1, 'a', 'alone')
+        tuples = [Token('end').shown(), assignment(tree[1][0][2][0]) or (), tree, parse_sum('1 + a'), check_depth(tree),
+                  expansion.next_script(), Result('', 0, 0).shown(), Host(self.files).tree(), locks.shown(), locks.shown()[0],
+                  locks.shown()[0][0][1], locks.shown()[1]]
+        self.assertEqual([row for row in tuples if not isinstance(row, tuple)], [])
+        lists = [sum_words('1'), expansion.words, expansion.fields, expansion.rows, closed([0], ()), moved([0], 'a', ()),
+                 matching_paths(self.files, 1, 0, (('*', False),)), run_scheduled(Kernel(self.files), Scheduler('fair')),
+                 locks.ahead(1, 'a'), locks.blockers(2, 'a', 'alone'), locks.waits_for(1), locks.release(1, 'a'), locks.leave(1)]
+        self.assertEqual([row for row in lists if not isinstance(row, list)], [])
+        self.assertIsInstance(locks.holders_of('a'), dict)
+
+    def test_nothing_from_scripts(self):
+        expansion = Expansion(parse_script('$a')[1][0][2], True)
+        commands = Commands({}, 3)
+        found = [expansion.add('a', False, True), expansion.go({}, 0, lambda letters: []), commands.give(['a']),
+                 ShellProgram(parse_script('a')).leave(), Scheduler('fair').set_weight(1, 2), Locks().take(1, 'a', 'alone')]
+        self.assertEqual((found, commands.code), ([None] * len(found), 3))
+
+    def test_arguments_of_commands(self):
+        variables = {'1': 'old', '2': 'old', 'x': 'stays'}
+        commands = Commands(variables, 0)
+        commands.give(['a'])
+        self.assertEqual(commands.variables, {'1': 'a', '#': '1', 'x': 'stays'})
+        commands.give([str(number) for number in range(1, 13)])
+        self.assertEqual(commands.variables, {**{name: name for name in '123456789'}, '#': '12', 'x': 'stays'})
+        commands.give([])
+        self.assertEqual(commands.variables, {'#': '0', 'x': 'stays'})
 
     def test_blocks_hold_bytes(self):
         self.files.make_folder('/d', mode=63)

@@ -4,8 +4,9 @@ import itertools
 import random
 import unittest
 
+from hoststack.filetools import is_tool, make_tool
 from hoststack.letters import LETTERS
-from hoststack.linetools import PACK_MARK, difference, line_tool, lines_of, pack_lines, unpack_rows
+from hoststack.linetools import PACK_MARK, difference, lines_of, pack_lines, unpack_rows
 from hoststack.names import change_mode, change_owner, tree_of
 from tests.helpers import ToolCase, new_files, word_of
 
@@ -318,11 +319,12 @@ class UnpackTest(ToolCase):
 class ToolTest(unittest.TestCase):
     def test_names(self):
         for name in NAMES:
-            self.assertEqual(line_tool([name]).words, [name])
-        for name in ('cat', '', 'Cut', 'packs'):
-            self.assertIsNone(line_tool([name]))
+            self.assertTrue(is_tool(name))
+            self.assertEqual(make_tool([name]).words, [name])
+        for name in ('', 'Cut', 'packs'):
+            self.assertFalse(is_tool(name))
         words = ['cut', '-c', '1', '/a']
-        self.assertEqual(line_tool(words).words, words)
+        self.assertEqual(make_tool(words).words, words)
 
 
 if __name__ == '__main__':
