@@ -172,12 +172,12 @@ def read_on(commands, calls, item):
     except FileError as error:
         commands.fail('read', error.word)
         return
-    if letter is None or letter not in ('', '\n'):
+    if letter in ('', '\n'):
+        commands.variables[item[1]] = commands.line
+        commands.code = 1 if letter == '' and commands.line == '' else 0
+    else:
         commands.line = commands.line + (letter or '')
         commands.stack.append(item)
-        return
-    commands.variables[item[1]] = commands.line
-    commands.code = 1 if letter == '' and commands.line == '' else 0
 
 
 def wait_on(commands, calls, item):

@@ -146,16 +146,16 @@ def parts_of_path(letters):
 def matching_paths(files, folder, user, letters):
     """Return the paths that a pattern of letters matches, in ascending order; names with a "." first only by a "."."""
     paths = ['']
-    is_known = True
-    for name, many in parts_of_path(letters):
+    parts = parts_of_path(letters)
+    for name, many in parts:
         if is_pattern(name):
             paths = [path + found for path in paths for found in matching_names(files, folder, user, path, name)]
         else:
             paths = [path + text_of_letters(name) for path in paths]
-        # A name that was listed is there; what stands behind it may not be.
-        is_known = is_pattern(name) and many == 0
         paths = [path + '/' * many for path in paths]
-    return sorted([path for path in paths if is_known or is_there(files, folder, user, path)])
+    # A name that was listed is there; what stands behind it may not be.
+    is_listed = is_pattern(parts[-1][0]) and parts[-1][1] == 0
+    return sorted([path for path in paths if is_listed or is_there(files, folder, user, path)])
 
 
 def matching_names(files, folder, user, path, letters):

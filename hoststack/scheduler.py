@@ -70,12 +70,8 @@ class Scheduler:
     def by_chance(self, ready):
         """Return the process to which the next seed leads along the ready ones, by their weights."""
         self.seed = (SEED_FACTOR * self.seed + SEED_STEP) % SEED_TOP
-        place = self.seed // SEED_REST % sum([self.weight(number) for number in ready])
-        for number in ready:
-            if place < self.weight(number):
-                return number
-            place = place - self.weight(number)
-        return ready[-1]
+        along = [number for number in ready for _ in range(self.weight(number))]
+        return along[self.seed // SEED_REST % len(along)]
 
 
 def run_scheduled(kernel, scheduler, most=100000):

@@ -23,7 +23,6 @@ class ShellProgram(Commands):
         for item in self.stack:
             if item[0] == 'restore':
                 item[1].close_all()
-        self.stack = []
 
     def step(self, calls):
         """Do the next small step; end with the last code if nothing is left."""
@@ -356,18 +355,14 @@ def read_output(shell, calls, item):
         shell.stack.append((word, expansion, child, number, text + more))
     else:
         calls.close(number)
-        shell.stack.append(('put in', expansion, child, text))
+        shell.stack.append(('put in', expansion, text))
+        shell.stack.append(('wait', child))
 
 
 def put_in(shell, calls, item):
-    """Wait for a script and put its output in; its code is the last one then."""
-    word, expansion, child, text = item
-    code = calls.wait(child)
-    if code is None:
-        shell.stack.append(item)
-        return
-    shell.code = code
-    shell.output_code = code
+    """Put a script's output in, whose code is the last one now."""
+    word, expansion, text = item
+    shell.output_code = shell.code
     expansion.add(text.rstrip('\n'), expansion.part_here()[-1], True)
 
 

@@ -12,7 +12,6 @@ MOST_WITHIN = 8
 # The longer ones first: "&&" is not "&" twice.
 OPERATORS = ('&&', '||', ';;', '>>', '2>', ';', '&', '|', '<', '>', '(', ')', '\n')
 WORD_ENDS = (' ', '\n', ';', '&', '|', '<', '>', '(', ')', '')
-NOT_PLAIN = ("'", '"', '\\', '$')
 # What a "\" within quotes stands before; before others it is a character.
 ESCAPED = ('"', '$', '\\')
 ARGUMENTS = ('1', '2', '3', '4', '5', '6', '7', '8', '9', '#')
@@ -61,7 +60,8 @@ def word_of(parts):
     is_needed = not any([part[-1] and part != EMPTY_QUOTED for part in rows])
     kept = []
     for part, following in zip(rows, rows[1:] + [('text', '', False)]):
-        is_mark = following[0] == 'text' and not following[2] and following[1].startswith('#')
+        # Of texts behind an empty quoted one only an unquoted one is left.
+        is_mark = following[0] == 'text' and following[1].startswith('#')
         if part != EMPTY_QUOTED or is_needed or is_mark:
             kept.append(part)
     return tuple(joined_texts(kept))
@@ -207,7 +207,7 @@ class Reader:
     def read_name(self):
         """Return the name that stands here; raise ShellError if there is none."""
         start = self.place
-        while self.here() != '' and is_name_letter(self.here()):
+        while is_name_letter(self.here()):
             self.place = self.place + 1
         name = self.text[start:self.place]
         if not is_name(name):

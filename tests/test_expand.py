@@ -133,6 +133,12 @@ class ExpansionTest(unittest.TestCase):
         expansion.go({}, 0, no_names)
         self.assertEqual(expansion.fields, [''])
 
+    def test_a_script_s_own_text_is_not_split(self):
+        expansion = Expansion([(('text', 'a b', False), ('name', 'x', False))], True)
+        while not expansion.is_done():
+            expansion.go({'x': ' c'}, 0, no_names)
+        self.assertEqual(expansion.fields, ['a b', 'c'])
+
     def test_words_that_have_no_part(self):
         expansion = Expansion([()], True)
         expansion.go({}, 0, no_names)

@@ -89,6 +89,8 @@ class PlainTest(FileToolCase):
         self.gives('seq 3 1', '')
         self.gives('seq -2 1', '-2\n-1\n0\n1\n')
         self.gives('seq 08 010', '8\n9\n10\n')
+        for last in range(60, 80):
+            self.gives(f'seq 1 {last}', ''.join(f'{number}\n' for number in range(1, last + 1)))
         self.gives('seq 1 200', ''.join(f'{number}\n' for number in range(1, 201)))
         self.refuses('seq', 'seq 1', 'seq 1 2 3', 'seq a 2', 'seq 1 b', 'seq 1 1234567890', 'seq - 1', ['seq', '', '1'])
 
@@ -414,7 +416,7 @@ class MoveTest(FileToolCase):
                 self.assertEqual(self.files.status('/a').mode, 8 * one + other)
         self.does('chmod 05 d')
         self.assertEqual(self.files.status('/d').mode, 5)
-        self.refuses('chmod', 'chmod 75', 'chmod 7 a', 'chmod 755 a', 'chmod 8 a', 'chmod 78 a', 'chmod 87 a', 'chmod rw a',
+        self.refuses('chmod', 'chmod 75', 'chmod 7 a', 'chmod 755 a', 'chmod 8 a', 'chmod 78 a', 'chmod 87 a', 'chmod rw a', 'chmod 7x a', 'chmod xx a',
                      'chmod -1 a', 'chmod 64 a b', ['chmod', '', 'a'], ['chmod', ' 7', 'a'], 'chmod a 75')
         self.fails('chmod 64 none', 'missing')
         self.fails('chmod 77 a', 'denied', user=2)

@@ -177,9 +177,15 @@ class BoundTest(HostCase):
         self.assertEqual(self.names(), ('f',))
 
     def test_too_many_processes_everywhere(self):
-        for last in ('(:)', 'x=$(:)', 'true', ': &', ': | :', '{ true; } > /f', 'echo "$(:)"', 'f() { true; }; f', '{ (:); } > /f < /f'):
+        for last in ('(:)', 'x=$(:)', 'true', ': &', ': | :', '{ true; } > /f', 'echo "$(:)"', 'f() { true; }; f',
+                     '{ (:); } > /f < /f', '{ : & } > /f', '{ x=$(:); } > /f', '{ : | :; } > /f'):
             self.gives(': & ' * 59 + last + '\necho end', '', 139)
             self.gives('(' + ': & ' * 58 + last + '\necho end); echo $?', '139\n')
+
+    def test_just_enough_processes(self):
+        for many, last in ((58, '(:)'), (58, 'x=$(:)'), (58, 'true'), (58, ': &'), (57, ': | :'), (57, '(true)'), (57, 'x=$(true)'),
+                           (57, 'true &'), (55, 'true | true'), (56, ': | true')):
+            self.gives(': & ' * many + last, '')
 
     def test_forks_of_programs(self):
         self.put('/fork', '#code\nfork r1\njumpif r1 parent\nset r2 100\nback:\nset r3 1\nsub r2 r2 r3\njumpif r2 back\nexit r2\n'
@@ -232,6 +238,9 @@ class BoundTest(HostCase):
 
     def test_names(self):
         self.gives(f'touch {"n" * 30}; touch {"n" * 31}; ls', f'touch: bad name\n{"n" * 30}\n')
+
+    def test_long_rows_of_numbers(self):
+        self.gives('seq 1 999999999 | head -2', '1\n2\n')
 
     def test_long_texts(self):
         self.gives("x=xxxxxxxxxx; x=$x$x$x$x$x; x=$x$x$x$x$x$x$x; echo $x > /f; echo $x | wc; cat f | wc", '1 1 351\n1 1 351\n')

@@ -88,6 +88,13 @@ class FairTest(unittest.TestCase):
         # 14 16, 28 33, 42 50, 57 66, 71 83, 85 100, 100 100
         self.assertEqual(chosen(scheduler, *[(1, 2)] * 14), [1, 2, 1, 2, 1, 2, 1, 2, 1, 2, 1, 2, 1, 1])
 
+    def test_equal_hundredths_of_other_weights(self):
+        scheduler = Scheduler('fair')
+        scheduler.set_weight(1, 11)
+        scheduler.set_weight(2, 10)
+        # After ten steps of 1 and nine of 2 both have 90, and then 1 has 100 and 2 has 90.
+        self.assertEqual(chosen(scheduler, *[(1, 2)] * 22), [1, 2] * 9 + [1, 1, 2, 1])
+
     def test_a_weight_may_change(self):
         scheduler = Scheduler('fair')
         self.assertEqual(chosen(scheduler, *[(1, 2)] * 4), [1, 2, 1, 2])

@@ -311,6 +311,8 @@ class LimitTest(ScriptCase):
             with self.assertRaises(ShellError):
                 parse_script('a', depth)
         parse_script('a ' + '$(b) ' * 700)
+        parse_script('a $(b $(c)) ' + nested('a $(', 8, ')'))
+        self.wrong('a $(b $(c)) ' + nested('a $(', 9, ')'))
 
     def test_sums(self):
         parse_script('a $((1' + '+1' * 99 + '))')

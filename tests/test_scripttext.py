@@ -16,7 +16,7 @@ SCRIPTS = (
     'case a in esac', 'case a in b) c;; (d|e) f & ;; esac', 'case in in (esac|in) a;; esac', 'f() { a; }', 'f() { g() { a; }; }',
     'a "b c"\'d\'\\e', 'a "$x"$x${x}y$1$#$?"$?$1"1', 'a "$(b "$(c "d")")"', 'a $( (b) ) "$( (b) )"', 'a $((b); c)', 'a $((1 + 2))',
     'a $(((1 + 2) * -(x - 3) mod y))', 'a ""', 'a ""#b', 'a #b', 'a x""y', 'a "a"""b', 'a "\\"\\$\\\\\\a"', "a '\n'", 'a \\\n', '"a"=b', 'a 2 > b',
-    'a "2"> b', '2 2> b', 'if"" a', '\\if', '"if" x', 'a if > b', 'a"$(b &)"', 'a "(" "$( (c; d) )"', 'a {b,c} }', '"" a', 'x=#y',
+    'a "2"> b', '2 2> b', 'if"" a', '\\if', '"if" x', 'a if > b', 'a"$(b &)"', 'a "(" "$( (c; d) )"', "a $( (b '))') )", 'a "$( (b "))" \\)) )"', 'a {b,c} }', '"" a', 'x=#y',
 )
 
 
@@ -54,6 +54,7 @@ class ScriptTextTest(unittest.TestCase):
         self.assertEqual(node_text(parse_script('a  b>c')[1][0]), 'a b > c')
         self.assertEqual(node_text(parse_script('a|b')[1][0]), 'a | b')
         self.assertEqual(node_text(parse_script('! (a)')[1][0]), '! ( a; )')
+        self.assertEqual(node_text(parse_script('a\nb')), 'a; b;')
 
     def test_redirects_before_reserved_words(self):
         for script in ('> x if', '> x < y then a > z', '2> e !', '< x }', '> x {'):

@@ -3,8 +3,11 @@
 import unittest
 
 from hoststack.errors import StuckError
+from hoststack.filetools import make_tool
 from hoststack.kernel import Kernel
 from hoststack.names import change_mode, tree_of
+from hoststack.opened import PipeEnd
+from hoststack.pipe import Pipe
 from hoststack.script import parse_script
 from hoststack.shell import ShellProgram
 from tests.helpers import HostCase
@@ -543,6 +546,11 @@ class ProgramTest(HostCase):
         self.host.user = 2
         self.gives('prog; echo $?', '42\n3\n')
 
+    def test_a_folder_that_is_denied_is_no_file(self):
+        change_mode(self.files, '/d', 0)
+        self.host.user = 2
+        self.gives('d; echo $?', 'd: not a file\n126\n')
+
     def test_it_is_told_ahead_of_redirects(self):
         self.gives('none > /f 2> /e; echo $?; d > /f < none; echo $?; ls', 'none: missing\n127\nd: not a file\n126\nd\nprog\n')
         self.gives('none > $(echo a > /g; echo h); ls', 'none: missing\nd\nprog\n')
@@ -598,6 +606,28 @@ class StepTest(HostCase):
             kernel.step(kernel.ready()[-1])
         self.assertEqual(kernel.console.written, 'a\nb\n')
         self.assertNotIn(number, kernel.processes)
+
+    def test_complaints_that_have_to_wait(self):
+        for size in (1, 3):
+            kernel = Kernel(self.files)
+            pipe = Pipe(size)
+            table = kernel.console_table()
+            table.put(2, PipeEnd(pipe, True))
+            kernel.start(ShellProgram(parse_script('nothing; cd /none; < none; : > none/x')), table)
+            reader = kernel.console_table()
+            reader.put(0, PipeEnd(pipe, False))
+            kernel.start(make_tool(['cat']), reader)
+            kernel.run(())
+            self.assertEqual(kernel.console.written, 'nothing: missing\ncd: missing\nshell: missing\nshell: missing\n')
+
+    def test_descriptors_of_outputs_are_closed(self):
+        kernel = Kernel(self.files)
+        process = kernel.process(kernel.start(ShellProgram(parse_script('x=$(:)$(:); y=$(:); z="$(:)"; { :; } > /f')), kernel.console_table()))
+        most = 0
+        while kernel.alive() != []:
+            kernel.step(kernel.ready()[0])
+            most = max(most, len(process.table.rows))
+        self.assertEqual(most, 4)
 
     def test_the_program_s_code(self):
         for script, code in (('false', 1), ('true', 0), ('exit 9', 9), ('x=1', 0)):

@@ -104,6 +104,9 @@ class TreeTest(unittest.TestCase):
         parse_sum('(-a) ' + '+ (-a) ' * 35)
         self.wrong('(' * 20 + 'a' + ')' * 20, '-' * 20 + 'a', '-(' * 10 + 'a' + ')' * 10, '(' * 19 + '-a' + ')' * 19)
         parse_sum('-(' * 9 + '(a)' + ')' * 9)
+        for before in ('(a) + ', '-a + ', '((a)) * -(b) - '):
+            parse_sum(before + '(' * 19 + 'a' + ')' * 19)
+            self.wrong(before + '(' * 20 + 'a' + ')' * 20, before + '-' * 20 + 'a')
         self.wrong('-(' * 10 + '(a)' + ')' * 10)
 
 
