@@ -10,7 +10,8 @@ from hoststack.filetools import make_tool
 from hoststack.host import new_host
 from hoststack.inode import FOLDER, FREE
 from hoststack.kernel import Kernel
-from hoststack.opened import Console, Table
+from hoststack.opened import Console, PipeEnd, Table
+from hoststack.pipe import Pipe
 
 
 def new_files(block_size=64, count=400, inodes=64, capacity=16):
@@ -102,11 +103,8 @@ def loss_patterns(many):
     return sorted(set(patterns))
 
 
-class ToolCase(unittest.TestCase):
-    """Tools as processes of a kernel, with a pipe or the console behind their descriptors."""
-
-    def setUp(self):
-        self.files = new_files(64, 600)
+class TextsCase(unittest.TestCase):
+    """Files with texts."""
 
     def put(self, path, text, **more):
         """Make a file with a text."""
@@ -118,6 +116,13 @@ class ToolCase(unittest.TestCase):
     def text(self, path):
         number = self.files.resolve(path)
         return self.files.read(number, 0, self.files.blocks.inode(number).size)
+
+
+class ToolCase(TextsCase):
+    """Tools as processes of a kernel, with a pipe or the console behind their descriptors."""
+
+    def setUp(self):
+        self.files = new_files(64, 600)
 
     def run_tool(self, words, entered='', choices=(), **more):
         """Return (what descriptor 1 got, what descriptor 2 got, the code) of a tool."""
@@ -132,6 +137,22 @@ class ToolCase(unittest.TestCase):
         kernel.run(choices)
         self.assertEqual((kernel.console.written, self.files.holding), ('', {}))
         return shown.written, told.written, process.code
+
+    def most_at_once(self, words):
+        """Return the most characters that a tool writes at a step."""
+        pipe = Pipe(1000)
+        PipeEnd(pipe, False)
+        kernel = Kernel(self.files)
+        table = kernel.console_table()
+        table.put(1, PipeEnd(pipe, True))
+        number = kernel.start(make_tool(words), table)
+        most = 0
+        while kernel.alive() != []:
+            before = pipe.passed
+            kernel.step(number)
+            most = max(most, pipe.passed - before)
+            pipe.text = ''
+        return most
 
     def gives(self, words, found, entered='', code=0, told='', **more):
         """Check what a tool writes, that it complains of nothing, and its code."""
@@ -152,7 +173,7 @@ class ToolCase(unittest.TestCase):
         return kernel.console.written, process.code
 
 
-class HostCase(unittest.TestCase):
+class HostCase(TextsCase):
     """Scripts that a host runs; after each there is nothing left of them but files."""
 
     def setUp(self):
@@ -175,17 +196,6 @@ class HostCase(unittest.TestCase):
     def gives(self, script, text, code=0, **more):
         """Check what a script writes to the console, and its code."""
         self.assertEqual(self.run_script(script, **more), (text, code), script)
-
-    def put(self, path, text, **more):
-        """Make a file with a text."""
-        number = self.files.create(path, **more)
-        for place in range(0, len(text), 200):
-            self.files.write(number, place, text[place:place + 200])
-        return number
-
-    def text(self, path):
-        number = self.files.resolve(path)
-        return self.files.read(number, 0, self.files.blocks.inode(number).size)
 
     def names(self, path='/'):
         return self.files.list_folder(path)

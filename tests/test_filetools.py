@@ -6,8 +6,7 @@ from hoststack.filetools import is_tool, make_tool
 from hoststack.inode import FILE, FOLDER, LINK
 from hoststack.kernel import Kernel
 from hoststack.names import change_mode, link, tree_of
-from hoststack.opened import Nothing, PipeEnd, Table
-from hoststack.pipe import Pipe
+from hoststack.opened import Nothing, Table
 from tests.helpers import ToolCase, faults_of
 
 FILE_TOOLS = ('echo', 'true', 'false', 'seq', 'test', 'sync', 'ls', 'find', 'mkdir', 'rmdir', 'rm', 'touch', 'mv', 'cp',
@@ -63,20 +62,8 @@ class PlainTest(FileToolCase):
         self.gives(['echo', 'a b', '', ' c\n', '-n'], 'a b   c\n -n\n')
 
     def test_long_texts_are_written_by_parts(self):
-        pipe = Pipe(1000)
-        PipeEnd(pipe, False)
         for words in (['echo', 'x' * 500], ['seq', '1', '150'], ['seq', '100000000', '100000050']):
-            kernel = Kernel(self.files)
-            table = kernel.console_table()
-            table.put(1, PipeEnd(pipe, True))
-            number = kernel.start(make_tool(words), table)
-            most = []
-            while kernel.alive() != []:
-                before = pipe.passed
-                kernel.step(number)
-                most.append(pipe.passed - before)
-                pipe.text = ''
-            self.assertEqual(max(most), 200, words)
+            self.assertEqual(self.most_at_once(words), 200, words)
 
     def test_true_and_false(self):
         self.gives('true', '')
@@ -463,6 +450,16 @@ class WhereTest(FileToolCase):
             process = kernel.process(kernel.start(make_tool(words), table))
             kernel.run(())
             self.assertEqual((kernel.console.written, process.code), (words[0] + ': not open\n', 1))
+
+    def test_a_file_that_is_read_is_not_written(self):
+        self.put('/f', 'text')
+        kernel = Kernel(self.files)
+        table = kernel.console_table()
+        table.close(1)
+        # The file gets the number that was free, 1.
+        process = kernel.process(kernel.start(make_tool(['cat', '/f']), table))
+        kernel.run(())
+        self.assertEqual((kernel.console.written, process.code, self.text('/f')), ('cat: not writable\n', 1, 'text'))
 
     def test_nothing_takes_all(self):
         kernel = Kernel(self.files)

@@ -36,20 +36,8 @@ class ToolTest(ToolCase):
 
     def test_two_hundred_characters_at_once(self):
         self.put('/f', 'x' * 950)
-        pipe = Pipe(1000)
-        PipeEnd(pipe, False)
         for words in (['cat', '/f'], ['tail', '/f'], ['rev', '/f'], ['sort', '/f', '/f']):
-            kernel = Kernel(self.files)
-            table = kernel.console_table()
-            table.put(1, PipeEnd(pipe, True))
-            number = kernel.start(make_tool(words), table)
-            most = []
-            while kernel.alive() != []:
-                before = pipe.passed
-                kernel.step(number)
-                most.append(pipe.passed - before)
-                pipe.text = ''
-            self.assertEqual(max(most), 200, words)
+            self.assertEqual(self.most_at_once(words), 200, words)
 
     def test_small_pipes(self):
         text = 'one\ntwo two\n\nthree'
