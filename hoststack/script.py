@@ -80,6 +80,16 @@ class Parser:
             raise ShellError('a script lacks a name')
         return name
 
+    def enter(self):
+        """Go into a command; raise ShellError if too many stand within each other here."""
+        self.within = self.within + 1
+        if self.within > MOST_COMMANDS:
+            raise ShellError('too many commands stand within each other')
+
+    def leave(self):
+        """Go out of a command."""
+        self.within = self.within - 1
+
     def begins_command(self):
         """Return True if a command begins here."""
         if self.here() == 'word':
@@ -113,26 +123,23 @@ class Parser:
         return node
 
     def pipeline(self):
-        """Return the tree of commands with "|" between them, perhaps behind "!"."""
-        marks = 0
-        while self.word_here() == '!':
+        """Return the tree of commands with "|" between them, or of "!" and the pipeline that it stands before."""
+        if self.word_here() == '!':
+            self.enter()
             self.skip()
-            marks = marks + 1
+            node = ('not', self.pipeline())
+            self.leave()
+            return node
         nodes = [self.command()]
         while self.here() == '|':
             self.skip()
             self.skip_lines()
             nodes.append(self.command())
-        node = nodes[0] if len(nodes) == 1 else ('pipe', tuple(nodes))
-        for _ in range(marks):
-            node = ('not', node)
-        return node
+        return nodes[0] if len(nodes) == 1 else ('pipe', tuple(nodes))
 
     def command(self):
         """Return the tree of a command."""
-        self.within = self.within + 1
-        if self.within > MOST_COMMANDS:
-            raise ShellError('too many commands stand within each other')
+        self.enter()
         if not self.begins_command() or self.word_here() == '!':
             raise ShellError('a command is missing')
         kind = self.word_here() if self.here() == 'word' else self.here()
@@ -143,7 +150,7 @@ class Parser:
             node = define(self)
         else:
             node = simple(self)
-        self.within = self.within - 1
+        self.leave()
         return node
 
     def block(self, first, last):

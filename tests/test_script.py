@@ -283,13 +283,40 @@ class LimitTest(ScriptCase):
     def test_twenty_five_commands_within_each_other(self):
         for first, last in (('{ ', '; }'), ('(', ')'), ('if a; then ', '; fi'), ('while ', '; do a; done'), ('f() { ', '; }'),
                             ('for x in; do ', '; done'), ('case a in b) ', ';; esac'), ('if ', '; then a; fi'),
-                            ('if a; then b; else ', '; fi'), ('if a; then b; elif c; then ', '; fi'), ('! { ', '; }'),
+                            ('if a; then b; else ', '; fi'), ('if a; then b; elif c; then ', '; fi'),
                             ('b && { ', '; }'), ('b | (', ')')):
             parse_script(nested(first, 24, last))
             self.wrong(nested(first, 25, last), nested(first, 26, last))
         parse_script('; '.join([nested('{ ', 24, '; }')] * 20))
 
+    def test_twenty_five_nots_and_other_commands_within_each_other(self):
+        tree = A
+        for many in range(25):
+            self.gives('! ' * many + 'a', tree)
+            tree = ('not', tree)
+        for many in (25, 26, 34, 144, 145, 1900):
+            self.wrong('! ' * many + 'a', '! ' * many + 'a | b', '! ' * many + '> x', '! ' * many + 'f() { a; }', '! ' * many)
+        for first, last in (('{ ', '; }'), ('(', ')'), ('while ', '; do a; done'), ('for x in; do ', '; done'), ('f() { ', '; }'),
+                            ('if a; then b; else ', '; fi'), ('case a in b) ', ';; esac')):
+            for around in range(24):
+                parse_script('! ' * around + first + '! ' * (23 - around) + 'a' + last)
+                self.wrong('! ' * around + first + '! ' * (24 - around) + 'a' + last)
+            self.wrong('! ' * 24 + first + 'a' + last)
+            parse_script(nested('! ' + first, 12, last))
+            self.wrong(nested('! ' + first, 12, last, '! a'), nested('! ' + first, 13, last))
+
+    def test_nots_one_after_another(self):
+        mark = '! ' * 24
+        for sign in ('; ', '\n', ' && ', ' || ', ' & '):
+            parse_script(sign.join([mark + 'a'] * 30))
+            self.wrong(sign.join([mark + 'a'] * 29 + [mark + '! a']))
+        parse_script(f'if {mark[2:]}a; then {mark[2:]}a; elif {mark[2:]}a; then {mark[2:]}a; else {mark[2:]}a; fi; {mark}a')
+        self.gives('! ! a | b | c', ('not', ('not', ('pipe', (A, B, C)))))
+        parse_script(mark + 'a | b | c')
+
     def test_each_script_within_a_word_begins_anew(self):
+        parse_script('! ' * 24 + 'a $(' + '! ' * 24 + 'b)')
+        self.wrong('a $(' + '! ' * 25 + 'b)', 'a "$(' + '! ' * 25 + 'b)"')
         inner = nested('(', 24, ')')
         parse_script(nested('(', 10, ')', 'a $( ' + inner + ')'))
         self.wrong('a $( ' + nested('(', 25, ')') + ')')
@@ -324,8 +351,6 @@ class LimitTest(ScriptCase):
         for many, sign in ((144, ' && '), (144, ' || ')):
             parse_script(sign.join(['a'] * (many + 1)))
             self.wrong(sign.join(['a'] * (many + 2)))
-        parse_script('! ' * 144 + 'a')
-        self.wrong('! ' * 145 + 'a', '! ' * 1900 + 'a')
         self.wrong('&&'.join(['a'] * 1300), 'if a; then b; ' + 'elif a; then b; ' * 150 + 'fi')
 
     def test_check_depth(self):

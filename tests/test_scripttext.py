@@ -75,7 +75,8 @@ class ScriptTextTest(unittest.TestCase):
         self.assertEqual(word_text(parse_script('$(((1 * (2)) + ((3))))')[1][0][2][0]), '$((1 * 2 + 3))')
 
     def test_limits_are_kept(self):
-        for script in ('{ ' * 24 + 'a' + '; }' * 24, 'a $(' * 8 + 'a' + ')' * 8, 'a $((' + '(-' * 9 + '(1)' + ')' * 9 + '))',
+        for script in ('{ ' * 24 + 'a' + '; }' * 24, '! ' * 24 + 'a', '! { ' * 12 + 'a' + '; }' * 12,
+                       'a $(' * 8 + 'a' + ')' * 8, 'a $((' + '(-' * 9 + '(1)' + ')' * 9 + '))',
                        ' && '.join(['a'] * 145), 'a $((1' + '+1' * 99 + '))'):
             self.same(parse_script(script))
 
