@@ -15,6 +15,8 @@ FORMS = {
     'wait': 'r', 'exit': 'r', 'grow': 'r', 'pid': 'r',
 }
 HALF_RANGE = 2147483648
+# As many as the greatest number of 32 bits with a sign has.
+MOST_DIGITS = 10
 
 
 def wrapped(number):
@@ -23,15 +25,14 @@ def wrapped(number):
 
 
 def number_in(text):
-    """Return the number of a text in 32 bits, None for a text that is none."""
+    """Return the number of a text, None for a text that is no number of 32 bits with a sign."""
     digits = text[1:] if text.startswith('-') else text
-    if digits == '' or not (digits.isascii() and digits.isdigit()):
+    if not (digits.isascii() and digits.isdigit()) or len(digits.lstrip('0')) > MOST_DIGITS:
         return None
-    value = 0
     # Python reads no texts of many thousand digits at once.
-    for digit in digits:
-        value = wrapped(10 * value + int(digit))
-    return wrapped(-value) if text.startswith('-') else value
+    value = int(digits[-MOST_DIGITS:])
+    number = -value if text.startswith('-') else value
+    return number if wrapped(number) == number else None
 
 
 def plain_lines(text):

@@ -1,13 +1,11 @@
 """Sums: arithmetic within words: numbers, names, + - * / mod, comparisons, a minus, and brackets."""
 
-from hoststack.code import wrapped
+from hoststack.code import number_in, wrapped
 from hoststack.errors import ShellError
 from hoststack.letters import is_name_letter
 
 MOST_WORDS = 200
 MOST_BRACKETS = 19
-MOST_NUMBER = 2147483647
-MOST_NUMBER_DIGITS = 10
 MOST_VARIABLE_DIGITS = 12
 LONG_SIGNS = ('<=', '>=', '==', '!=')
 SHORT_SIGNS = ('<', '>', '+', '-', '*', '/', '(', ')')
@@ -100,13 +98,10 @@ def plain_tree(word):
 
 
 def plain_number(word):
-    """Return the number of a word of digits."""
-    if not word.isdigit() or len(word.lstrip('0')) > MOST_NUMBER_DIGITS:
-        raise ShellError('no number')
-    # Python reads no texts of many thousand digits at once.
-    number = int(word[-MOST_NUMBER_DIGITS:])
-    if number > MOST_NUMBER:
-        raise ShellError('a number is too large')
+    """Return the number of a word that begins with a digit; raise ShellError if it is none, or too large."""
+    number = number_in(word)
+    if number is None:
+        raise ShellError('no number, or one that is too large')
     return number
 
 

@@ -82,13 +82,17 @@ class AssembleTest(unittest.TestCase):
             self.assertEqual(assemble(f'say r{number}'), (('say', number),))
 
     def test_numbers(self):
-        rows = {'0': 0, '-0': 0, '007': 7, '-1': -1, '2147483647': 2147483647, '-2147483648': -2147483648,
-                '2147483648': -2147483648, '4294967296': 0, '4294967297': 1, '-4294967297': -1, '9' * 5000: None}
+        rows = {'0': 0, '-0': 0, '007': 7, '-1': -1, '999999999': 999999999, '2147483647': 2147483647, '-2147483648': -2147483648,
+                '0' * 20 + '2147483647': 2147483647, '-' + '0' * 20 + '2147483648': -2147483648, '0' * 5000: 0, '0' * 5000 + '7': 7}
         for text, number in rows.items():
-            found = assemble('set r0 ' + text)[0][2]
-            wanted = (10 ** 5000 - 1 + 2 ** 31) % 2 ** 32 - 2 ** 31 if number is None else number
-            self.assertEqual(found, wanted, text[:20])
+            self.assertEqual(assemble('set r0 ' + text), (('set', 0, number),), text[-20:])
         self.wrong('set r0 x', 'set r0 1x', 'set r0 +1', 'set r0 -', 'set r0 --1', 'set r0 1.5', 'set r0 1-', 'set r0 0x1')
+
+    def test_numbers_that_are_not_of_32_bits(self):
+        for text in ('2147483648', '2147483649', '4294967295', '4294967296', '4294967297', '9999999999', '10000000000', '12147483647',
+                     '1' + '0' * 20, '9' * 5000, '0' * 5000 + '2147483648', '02147483648'):
+            self.wrong('set r0 ' + text, 'say r0\nset r7 ' + text + '\nsay r7')
+        self.wrong('set r0 -2147483649', 'set r0 -02147483649', 'set r0 -4294967296', 'set r0 -4294967297', 'set r0 -' + '9' * 5000)
 
     def test_two_hundred_rows(self):
         self.assertEqual(len(assemble('say r0\n' * 200)), 200)

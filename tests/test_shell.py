@@ -527,12 +527,13 @@ class ProgramTest(HostCase):
         self.put('/text', 'echo a\n', mode=61)
         self.put('/empty', '', mode=61)
         self.put('/wrong', '#code\nnothing\n', mode=61)
+        self.put('/great', '#code\nset r0 2147483648\n', mode=61)
         self.put('/long', '#code\n' + '#' * 5000, mode=61)
         self.put('/late', '\n#code\n', mode=61)
         self.gives('d; echo $?', 'd: not a file\n126\n')
         self.gives('/; echo $?', '/: not a file\n126\n')
         self.gives('prog/x; echo $?', 'prog/x: not a folder\n126\n')
-        for name in ('text', 'empty', 'wrong', 'late'):
+        for name in ('text', 'empty', 'wrong', 'great', 'late'):
             self.gives(f'{name}; echo $?', f'{name}: denied\n126\n')
         self.gives('long; echo $?', 'long: too large\n126\n')
 
